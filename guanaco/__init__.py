@@ -1,0 +1,1 @@
+"""Guanaco: a checked language with modules, compiled to a machine."""
