@@ -1,0 +1,109 @@
+"""No function changes its arguments, no answer depends on earlier calls (point 2), and the interface is as listed."""
+
+import copy
+import importlib
+import inspect
+import random
+import unittest
+
+from generate import Maker
+from guanaco import errors
+from guanaco.checker import check, principal
+from guanaco.cover import missing, unused
+from guanaco.decisions import decide, follow
+from guanaco.monos import close, instance, nodes, scheme_ty, ty_scheme, unify, variables
+from guanaco.parser import parse, parse_expression, parse_ty
+from guanaco.printer import print_expression, print_program, print_ty
+from guanaco.tokens import read_tokens
+from guanaco.trees import height, names, size
+from values import BOOL, DATA, listed
+
+PROGRAMS = (
+    "", "val x = 1", "datatype 'a t = A of 'a | B fun f (A x) = x | f B = raise Div val y = f (A 1)",
+    "signature G = sig type t val x : t end structure S :> G = struct type t = int val x = 1 end val y = S.x",
+    "functor F (X : sig type t end) = struct datatype d = D of X.t end structure A = F (struct type t = int end) "
+    "structure B = F (struct type t = A.d end) val x = B.D (A.D 1)",
+    "val x = y", "val x = 1 + True", "val x = case 1 of 2 => 3", "val x = fn _ => 1 | _ => 2",
+    "structure S : sig val x : int end = struct end", "exception E of int val x = 1 handle E n => n | Div => 2",
+)
+INTERFACE = {
+    "tokens": {"read_tokens": 1}, "trees": {"size": 1, "height": 1, "names": 1},
+    "parser": {"parse": 1, "parse_expression": 1, "parse_ty": 1},
+    "printer": {"print_program": 1, "print_expression": 1, "print_ty": 1},
+    "monos": {"substitute": 2, "variables": 1, "nodes": 1, "close": 1, "instance": 2, "scheme_ty": 1, "ty_scheme": 1, "unify": 1},
+    "checker": {"check": 1, "check_with": 2, "principal": 1}, "cover": {"missing": 3, "unused": 3},
+    "decisions": {"decide": 3, "follow": 2},
+}
+
+
+def answer(function, *arguments):
+    """What a call returns, or the error that it raises with its fields."""
+    try:
+        return function(*arguments)
+    except errors.GuanacoError as error:
+        return type(error).__name__, sorted(vars(error).items())
+
+
+class Answers(unittest.TestCase):
+    def same(self, function, *arguments):
+        before = copy.deepcopy(arguments)
+        first = answer(function, *arguments)
+        self.assertEqual(arguments, before)
+        kept = copy.deepcopy(first)
+        if isinstance(first, list):
+            first.append("more")
+        if isinstance(first, dict):
+            first["more"] = "more"
+        self.assertEqual(answer(function, *arguments), kept)
+        return kept
+
+    def test_texts(self):
+        for text in PROGRAMS + (")", "00", "(" * 61, "(1, 2, 3, 4, 5, 6, 7)"):
+            for function in (read_tokens, parse, parse_expression, parse_ty):
+                self.same(function, text)
+
+    def test_trees(self):
+        for seed in range(60):
+            maker = Maker(random.Random(seed))
+            e, ty, pattern = maker.expression(4), maker.ty(4), maker.pattern(4)
+            program = tuple(maker.outermost(4) for _ in range(2))
+            for function, tree in ((print_expression, e), (print_ty, ty), (print_program, program), (names, pattern)):
+                self.same(function, tree)
+            for tree in (e, ty, pattern, program):
+                self.same(size, tree)
+                self.same(height, tree)
+
+    def test_programs(self):
+        trees = [parse(text) for text in PROGRAMS]
+        first = [self.same(check, tree) for tree in trees]
+        self.assertEqual([answer(check, tree) for tree in reversed(trees)], list(reversed(first)))
+        for text in ("fn x => x", "1 + True", "z", "ref []"):
+            self.same(principal, parse_expression(text))
+
+    def test_types(self):
+        ty = ("fun", ("var", 3), ("con", "list", (("var", "b"),)))
+        for function in (variables, nodes, close):
+            self.same(function, ty)
+        self.same(instance, (("a",), ("var", "a")), [ty])
+        self.same(unify, [(ty, ("fun", ("var", 1), ("var", 2)))])
+        self.same(ty_scheme, parse_ty("'a -> 'b list"))
+        self.same(scheme_ty, (("a",), ("var", "a")))
+
+    def test_matches(self):
+        rows = [("pcon", ("Nil",), None), ("pcon", ("Cons",), ("ptuple", (("pcon", ("True",), None), ("any",))))]
+        for function in (missing, unused, decide):
+            self.same(function, DATA, listed(BOOL), rows + [("any",)])
+        self.same(follow, decide(DATA, listed(BOOL), rows + [("any",)]), ("con", "Nil", None))
+
+
+class Interface(unittest.TestCase):
+    def test_functions(self):
+        for module, functions in INTERFACE.items():
+            for name, count in functions.items():
+                function = getattr(importlib.import_module("guanaco." + module), name)
+                self.assertEqual(function.__module__, "guanaco." + module)
+                self.assertEqual(len(inspect.signature(function).parameters), count)
+
+
+if __name__ == "__main__":
+    unittest.main()
