@@ -77,7 +77,7 @@ class Graph:
             if self.is_variable(b):
                 a, b = b, a
             if self.is_variable(a):
-                self.lower(b, self.levels[a])
+                self.lower_levels(b, self.levels[a])
             elif self.heads[a] != self.heads[b] or len(self.parts[a]) != len(self.parts[b]):
                 raise Mismatch(-1)
             else:
@@ -87,7 +87,7 @@ class Graph:
             self.links[a] = b
         self.check_finite(first)
 
-    def lower(self, n, level):
+    def lower_levels(self, n, level):
         """Makes a level the highest one of a node and all within it."""
         work = [n]
         while work:

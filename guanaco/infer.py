@@ -31,7 +31,7 @@ class Work:
         """A new variable."""
         return self.graph.variable(self.level)
 
-    def expect(self, node, ty):
+    def demand(self, node, ty):
         """Makes a node equal to a type without variables."""
         self.graph.unify(node, self.node_of(ty, {}))
 
@@ -52,7 +52,7 @@ class Work:
                 quantified = self.graph.generalize(node, self.level)
                 self.ty_of(node, None)
             else:
-                self.graph.lower(node, self.level)
+                self.graph.lower_levels(node, self.level)
             entries[name] = ("local", node, quantified)
         return entries
 
@@ -167,7 +167,7 @@ def infer_rules(work, scope, rules, subject, result, kind):
 
 def infer_if(work, scope, e):
     """An `if`."""
-    work.expect(infer(work, scope, e[1]), BOOL)
+    work.demand(infer(work, scope, e[1]), BOOL)
     result = infer(work, scope, e[2])
     work.graph.unify(result, infer(work, scope, e[3]))
     return result
@@ -181,14 +181,14 @@ def infer_seq(work, scope, e):
 
 def infer_raise(work, scope, e):
     """A `raise`."""
-    work.expect(infer(work, scope, e[1]), EXN)
+    work.demand(infer(work, scope, e[1]), EXN)
     return work.unknown()
 
 
 def infer_typed(work, scope, e):
     """An expression with its type."""
     node = infer(work, scope, e[1])
-    work.expect(node, meaning(scope, e[2]))
+    work.demand(node, meaning(scope, e[2]))
     return node
 
 

@@ -31,7 +31,7 @@ def match_signature(world, structure, signature):
     for name, _, letters, constructors in signature.specified:
         if constructors is not None:
             check_data(world, meanings[name], (letters, constructors), meanings)
-    check_structure(structure, realized(signature.scope, meanings, {}))
+    check_structure(structure, realized(signature.scope, meanings, {}), {})
     return meanings
 
 
@@ -59,8 +59,14 @@ def check_equal(first, second):
         raise SignatureError(-1)
 
 
-def check_structure(structure, wanted):
-    """Raises SignatureError unless a structure has all that a realized signature has."""
+def check_structure(structure, wanted, matched):
+    """Raises SignatureError unless a structure has all that a realized signature has.
+
+    `matched` has the pairs that were looked at already: structures and signatures may share others.
+    """
+    if (structure, wanted) in matched:
+        return
+    matched[(structure, wanted)] = True
     for kind in (TY, VALUE, CONSTRUCTOR, STRUCTURE):
         for name in wanted.names_of(kind):
             if not structure.has(kind, name):
@@ -72,7 +78,7 @@ def check_structure(structure, wanted):
     for name in wanted.names_of(CONSTRUCTOR):
         check_constructor(structure.entry(CONSTRUCTOR, name), wanted.entry(CONSTRUCTOR, name))
     for name in wanted.names_of(STRUCTURE):
-        check_structure(structure.entry(STRUCTURE, name), wanted.entry(STRUCTURE, name))
+        check_structure(structure.entry(STRUCTURE, name), wanted.entry(STRUCTURE, name), matched)
 
 
 def check_constructor(entry, wanted):

@@ -65,6 +65,13 @@ def replaced_constructors(constructors, meanings):
 
 def realized(scope, meanings, exceptions):
     """A scope in which type constructors and exceptions are replaced."""
+    return realized_once(scope, meanings, exceptions, {})
+
+
+def realized_once(scope, meanings, exceptions, known):
+    """As `realized`, where `known` has the scopes that were replaced already: structures may share others."""
+    if scope in known:
+        return known[scope]
     found = Scope()
     for name in scope.names_of(VALUE):
         _, found_variables, ty = scope.entry(VALUE, name)
@@ -80,5 +87,7 @@ def realized(scope, meanings, exceptions):
             owner = meanings[owner][1][1]
         found.bind(CONSTRUCTOR, name, (kind, owner, letters, replaced(argument, meanings)))
     for name in scope.names_of(STRUCTURE):
-        found.bind(STRUCTURE, name, realized(scope.entry(STRUCTURE, name), meanings, exceptions))
+        inner = scope.entry(STRUCTURE, name)
+        found.bind(STRUCTURE, name, realized_once(inner, meanings, exceptions, known))
+    known[scope] = found
     return found

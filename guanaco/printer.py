@@ -35,7 +35,7 @@ def declaration_text(declaration):
         return datatypes_text(declaration[1])
     if tag == "alias":
         _, letters, name, ty = declaration
-        return f"type {parameters_text(letters)}{name} = {ty_text(ty, ANY_TY)}"
+        return "type " + parameters_text(letters) + name + " = " + ty_text(ty, ANY_TY)
     if tag == "structure":
         return f"structure {declaration[1]} = {structure_text(declaration[2])}"
     if tag == "signature":
@@ -74,7 +74,8 @@ def signature_text(g):
     if g[0] == "signame":
         return g[1]
     _, inner, path, letters, ty = g
-    return f"{signature_text(inner)} where type {parameters_text(letters)}{path_text(path)} = {ty_text(ty, ANY_TY)}"
+    refined = parameters_text(letters) + path_text(path) + " = " + ty_text(ty, ANY_TY)
+    return signature_text(inner) + " where type " + refined
 
 
 def specification_text(specification):
@@ -85,7 +86,7 @@ def specification_text(specification):
     if tag == "stype":
         _, letters, name, ty = specification
         meaning = "" if ty is None else f" = {ty_text(ty, ANY_TY)}"
-        return f"type {parameters_text(letters)}{name}{meaning}"
+        return "type " + parameters_text(letters) + name + meaning
     if tag == "sdata":
         return datatypes_text(specification[1])
     if tag == "sexn":

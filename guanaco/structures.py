@@ -116,12 +116,19 @@ def renewed_exceptions(world, arguments, meanings):
 def exceptions_of(scope):
     """The dict from the exceptions in a scope and its structures to the types of their arguments."""
     found = {}
-    for name in scope.names_of(CONSTRUCTOR):
-        kind, owner, _, argument = scope.entry(CONSTRUCTOR, name)
-        if kind == "exn":
-            found[owner] = argument
-    for name in scope.names_of(STRUCTURE):
-        found.update(exceptions_of(scope.entry(STRUCTURE, name)))
+    seen = {}
+    work = [scope]
+    while work:
+        place = work.pop()
+        if place in seen:
+            continue
+        seen[place] = True
+        for name in place.names_of(CONSTRUCTOR):
+            kind, owner, _, argument = place.entry(CONSTRUCTOR, name)
+            if kind == "exn":
+                found[owner] = argument
+        for name in place.names_of(STRUCTURE):
+            work.append(place.entry(STRUCTURE, name))
     return found
 
 
@@ -182,6 +189,8 @@ def describe_signature(world, scope, g):
     if g[0] == "signame":
         signature = world.signatures[g[1]]
         exceptions = {name: world.new_name(name) for name in exceptions_of(signature.scope)}
+        if not exceptions and not signature.specified:
+            return signature
         return respecified(signature, renewed_types(world, signature, False), exceptions, ())
     if g[0] == "where":
         return refined(world, scope, g)
