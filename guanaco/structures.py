@@ -235,9 +235,8 @@ def specify(world, scope, specification):
     tag = specification[0]
     if tag == "sdata":
         found, defined = datatype_scope(world, scope, specification[1], False)
-        names = [name for _, name, _ in specification[1]]
         specified = []
-        for name, (made, letters, constructors) in zip(names, defined):
+        for (_, name, _), (made, letters, constructors) in zip(specification[1], defined):
             specified.append((made, (name,), letters, constructors))
         return Signature(found, specified)
     if tag == "stype":
