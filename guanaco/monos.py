@@ -4,8 +4,7 @@ from guanaco.errors import LimitError, Mismatch
 from guanaco.forms import build, fold, head_of, parts_of
 from guanaco.graph import Graph
 from guanaco.limits import MOST_DEPTH
-
-LETTERS = "abcdefghijklmnopqrstuvwxyz"
+from guanaco.tokens import LOWER
 
 
 def substitute(substitution, ty):
@@ -50,9 +49,9 @@ def nodes(ty):
 def close(ty):
     """The scheme of a type for all of its variables, or Mismatch for more than 26."""
     found = variables(ty)
-    if len(found) > len(LETTERS):
+    if len(found) > len(LOWER):
         raise Mismatch(-1)
-    letters = tuple(LETTERS[:len(found)])
+    letters = tuple(LOWER[:len(found)])
     return letters, instance((tuple(found), ty), [("var", letter) for letter in letters])
 
 
