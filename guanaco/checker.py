@@ -4,7 +4,7 @@ from guanaco.cover import find_missing, find_unused
 from guanaco.errors import Mismatch, ScopeError, SignatureError, Uncovered, Unused
 from guanaco.expansion import check_expansion
 from guanaco.forms import LARGEST_REPORTED, exceeds
-from guanaco.infer import Work, infer
+from guanaco.infer import infer
 from guanaco.meaning import constructor_function
 from guanaco.monos import close
 from guanaco.name_check import check_expression
@@ -13,6 +13,7 @@ from guanaco.scope_check import Outermost, check_outermost
 from guanaco.start import BASE_TYPES, DATA, EXCEPTIONS, primitive_schemes
 from guanaco.structures import declare, declare_functor, describe_signature
 from guanaco.trees import names
+from guanaco.work import Work
 from guanaco.world import World
 
 
@@ -23,6 +24,16 @@ def check(program):
 
 def check_with(program, structures):
     """As `check`, with given structures: pairs of a name and pairs of a value's name and scheme."""
+    world, bindings, _ = examine(program, structures)
+    data = [(name, *world.data[name]) for name in world.made_types]
+    return tuple(list(bindings.items())), (*DATA, *data)
+
+
+def examine(program, structures):
+    """Checks a program. What is known of it, the schemes of its values, and the drafts of its declarations.
+
+    The draft of a functor is `("functor", functor)`, that of a signature is None.
+    """
     check_expansion(program)
     world = World()
     scope = first_scope(world)
@@ -30,14 +41,16 @@ def check_with(program, structures):
         scope.bind(STRUCTURE, name, given_structure(pairs))
     state = Outermost(names_alone(scope))
     bindings = {}
+    drafts = []
     for number, declaration in enumerate(program):
         check_names(number, state, declaration)
-        for name, scheme in declare_typed(number, world, scope, declaration):
+        reports, draft = declare_typed(number, world, scope, declaration)
+        drafts.append(draft)
+        for name, scheme in reports:
             bindings.pop(name, None)
             bindings[name] = scheme
         check_matches(number, world)
-    data = [(name, *world.data[name]) for name in world.made_types]
-    return tuple(list(bindings.items())), (*DATA, *data)
+    return world, bindings, drafts
 
 
 def principal(e):
@@ -47,7 +60,7 @@ def principal(e):
     try:
         check_expression(names_alone(scope), e)
         work = Work(world)
-        node = infer(work, scope, e)
+        node, _ = infer(work, scope, e)
         scheme = reported(work.ty_of(node, None))
         for kind, subject, patterns in work.matches:
             world.matches.append((kind, work.ty_of(subject, None), patterns))
@@ -106,17 +119,20 @@ def check_names(number, state, declaration):
 
 
 def declare_typed(number, world, scope, declaration):
-    """Declares what an outermost declaration declares. The names and schemes of the values that it reports."""
+    """Declares what an outermost declaration declares.
+
+    The names and schemes of the values that it reports, and its draft.
+    """
     try:
         if declaration[0] == "signature":
             world.signatures[declaration[1]] = describe_signature(world, scope, declaration[2])
-            return []
+            return [], None
         if declaration[0] == "functor":
             declare_functor(world, scope, declaration)
-            return []
-        declared = declare(world, scope, declaration)
+            return [], ("functor", world.functors[declaration[1]])
+        declared, draft = declare(world, scope, declaration)
         scope.include(declared)
-        return [(name, reported(declared.entry(VALUE, name)[2])) for name in values_of(declaration)]
+        return [(name, reported(declared.entry(VALUE, name)[2])) for name in values_of(declaration)], draft
     except Mismatch:
         raise Mismatch(number) from None
     except SignatureError:

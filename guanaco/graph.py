@@ -136,14 +136,20 @@ class Graph:
             return leaf(a) if self.is_variable(a) else build(self.heads[a], parts)
         return self.walk(n, known, combine)
 
-    def generalize(self, n, level):
-        """Quantifies the variables above a level in a node. Tells whether it has quantified ones."""
+    def free_above(self, n, level):
+        """The list of the variables in a node that are above a level."""
+        found = []
+
         def combine(a, parts):
             if self.is_variable(a) and self.levels[a] > level:
-                self.levels[a] = QUANTIFIED
-                return True
-            return any(parts)
-        return self.walk(n, {}, combine)
+                found.append(a)
+        self.walk(n, {}, combine)
+        return found
+
+    def quantify(self, variables):
+        """Quantifies variables."""
+        for a in variables:
+            self.levels[a] = QUANTIFIED
 
     def renewed(self, n, level):
         """A node with new variables of a level in the place of the quantified ones."""

@@ -1,48 +1,69 @@
-"""The descriptions of declarations, structures and signatures (points 60 to 66)."""
+"""The descriptions of declarations, structures and signatures (points 60 to 66).
+
+With its description each structure has a draft, which elaboration needs: `("struct", drafts of declarations)`,
+`("path", path)`, `("apply", functor, draft, meanings)` with the entries that type constructors of the functor stand
+for, and `("seal", draft, hidden)` with the entries that new type constructors of an opaque seal stand for in the
+structure. Those of declarations are `("value", draft, types)` with the draft of `infer` and the types that it notes,
+`("structure", name, draft)`, and None for others.
+"""
 
 from guanaco.errors import SignatureError
 from guanaco.forms import UNIT
-from guanaco.infer import Work, declare_local
+from guanaco.infer import declare_local
 from guanaco.matching import Signature, match_signature
 from guanaco.meaning import constructor_function, meaning, meaning_or_none
 from guanaco.meaning import realized, replaced, replaced_constructors
 from guanaco.monos import variables
 from guanaco.scope import CONSTRUCTOR, STRUCTURE, TY, VALUE, Scope
+from guanaco.work import Work
 
 
 class Functor:
-    """The parameter's signature and the description of the body, with what was made while it was checked."""
+    """The parameter with its signature, and the body with what was made while it was checked."""
 
-    def __init__(self, signature, body, made_types, made_exceptions):
+    def __init__(self, parameter, signature, body, draft):
+        self.parameter = parameter
         self.signature = signature
         self.body = body
-        self.made_types = made_types
-        self.made_exceptions = made_exceptions
+        self.draft = draft
+        self.made_types = []
+        self.made_exceptions = []
 
 
 def declare(world, scope, declaration):
-    """A scope with what a declaration declares that is outermost or in a struct, but no functor or signature."""
+    """A scope with what a declaration declares that is outermost or in a struct, and its draft.
+
+    The declaration is no functor and no signature.
+    """
     tag = declaration[0]
     if tag == "datatype":
-        return declare_datatypes(world, scope, declaration[1])
+        return declare_datatypes(world, scope, declaration[1]), None
     found = Scope()
     if tag == "alias":
         _, letters, name, ty = declaration
         found.bind(TY, name, (letters, meaning(scope, ty)))
-        return found
+        return found, None
     if tag == "structure":
-        found.bind(STRUCTURE, declaration[1], describe(world, scope, declaration[2]))
-        return found
+        description, draft = describe(world, scope, declaration[2])
+        found.bind(STRUCTURE, declaration[1], description)
+        return found, ("structure", declaration[1], draft)
+    return declare_value(world, scope, declaration)
+
+
+def declare_value(world, scope, declaration):
+    """As `declare`, for a declaration that may stand in a `let`."""
     work = Work(world)
-    declared = declare_local(work, scope, declaration)
+    declared, draft = declare_local(work, scope, declaration)
     for kind, node, patterns in work.matches:
         world.matches.append((kind, work.ty_of(node, UNIT), patterns))
-    if tag not in ("val", "fun"):
-        return declared
-    for name in declared.names_of(VALUE):
-        ty = work.ty_of(declared.entry(VALUE, name)[1], UNIT)
+    types = work.noted_types()
+    if declaration[0] not in ("val", "fun"):
+        return declared, ("value", draft, types)
+    found = Scope()
+    for name, place, _ in draft[-1]:
+        ty = types[place]
         found.bind(VALUE, name, ("closed", tuple(variables(ty)), ty))
-    return found
+    return found, ("value", draft, types)
 
 
 def declare_functor(world, scope, declaration):
@@ -58,45 +79,56 @@ def declare_functor(world, scope, declaration):
     inner = scope.inner()
     exceptions = renewed_exceptions(world, exceptions_of(signature.scope), {})
     inner.bind(STRUCTURE, parameter, realized(signature.scope, {}, exceptions))
-    body = describe(world, inner, s)
-    world.functors[name] = Functor(signature, body, world.made_types, world.made_exceptions)
+    body, draft = describe(world, inner, s)
+    functor = Functor(parameter, signature, body, draft)
+    functor.made_types = world.made_types
+    functor.made_exceptions = world.made_exceptions
+    world.functors[name] = functor
     world.made_types = outer_types
     world.made_exceptions = outer_exceptions
     world.reports = True
 
 
 def describe(world, scope, s):
-    """The description of a structure expression."""
+    """The description of a structure expression, and its draft."""
     tag = s[0]
     if tag == "path":
-        return scope.seek(STRUCTURE, s[1])
+        return scope.seek(STRUCTURE, s[1]), s
     if tag == "apply":
-        argument = describe(world, scope, s[2])
-        return apply_functor(world, world.functors[s[1]], argument)
+        argument, draft = describe(world, scope, s[2])
+        functor = world.functors[s[1]]
+        description, meanings = apply_functor(world, functor, argument)
+        return description, ("apply", functor, draft, meanings)
     if tag == "seal":
-        structure = describe(world, scope, s[1])
-        return seal_structure(world, structure, describe_signature(world, scope, s[2]), s[3])
+        structure, draft = describe(world, scope, s[1])
+        description, hidden = seal_structure(world, structure, describe_signature(world, scope, s[2]), s[3])
+        return description, ("seal", draft, hidden)
     found = Scope()
     inner = scope.inner()
+    drafts = []
     for declaration in s[1]:
-        declared = declare(world, inner, declaration)
+        declared, draft = declare(world, inner, declaration)
         inner.include(declared)
         found.include(declared)
-    return found
+        drafts.append(draft)
+    return found, ("struct", tuple(drafts))
 
 
 def apply_functor(world, functor, argument):
-    """The description of the application of a functor to a structure."""
+    """The description of the application of a functor to a structure, and what its type constructors stand for."""
     meanings = match_signature(world, argument, functor.signature)
     made = []
     for name in functor.made_types:
         letters, constructors = world.data[name]
-        meanings[name] = constructor_function(world.make_ty(name), letters)
+        new = world.make_ty(name)
+        if name in world.hidden:
+            world.hidden[new] = True
+        meanings[name] = constructor_function(new, letters)
         made.append((meanings[name], constructors))
     define_all(world, made, meanings)
     arguments = {name: world.exceptions[name] for name in functor.made_exceptions}
     exceptions = renewed_exceptions(world, arguments, meanings)
-    return realized(functor.body, meanings, exceptions)
+    return realized(functor.body, meanings, exceptions), meanings
 
 
 def define_all(world, made, meanings):
@@ -133,12 +165,17 @@ def exceptions_of(scope):
 
 
 def seal_structure(world, structure, signature, opaque):
-    """The description of a structure that is sealed by a signature."""
+    """The description of a structure that is sealed by a signature, and what the types that this hides stand for."""
     meanings = match_signature(world, structure, signature)
+    hidden = {}
     if opaque:
+        actual = meanings
         meanings = renewed_types(world, signature, True)
+        for name, entry in meanings.items():
+            world.hidden[entry[1][1]] = True
+            hidden[entry[1][1]] = actual[name]
     exceptions = renewed_exceptions(world, exceptions_of(signature.scope), meanings)
-    return realized(signature.scope, meanings, exceptions)
+    return realized(signature.scope, meanings, exceptions), hidden
 
 
 def renewed_types(world, signature, makes):

@@ -8,13 +8,15 @@ class World:
     """The type constructors and exceptions that were made, the signatures and functors, and open matches.
 
     `data` has the letters and constructors of type constructors, `exceptions` the types of arguments.
-    `made_types` and `made_exceptions` have what was made since the program or the functor's body began.
+    `made_types` and `made_exceptions` have what was made since the program or the functor's body began, `hidden` the
+    type constructors that opaque seals made.
     """
 
     def __init__(self):
         self.data = {}
         self.exceptions = {}
         self.made_types = []
+        self.hidden = {}
         self.made_exceptions = []
         self.reports = True
         self.matches = []
