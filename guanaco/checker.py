@@ -157,7 +157,7 @@ def reported(ty):
 
 def check_matches(number, world):
     """Raises Unused or Uncovered for the first match of a declaration that is wrong."""
-    table = world.table()
+    table = world.known_data()
     for kind, ty, patterns in world.matches:
         if find_unused(table, ty, patterns) is not None:
             raise Unused(number)

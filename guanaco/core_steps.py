@@ -25,7 +25,7 @@ class Frame:
         self.table = table
         self.outer = outer
 
-    def at(self, up):
+    def further(self, up):
         """The frame so many functions further out."""
         place = self
         for _ in range(up):
@@ -104,7 +104,7 @@ def push(runner, instruction):
 
 def load(runner, instruction):
     """A variable."""
-    runner.stack.append(runner.frame.at(instruction[1]).table[instruction[2]])
+    runner.stack.append(runner.frame.further(instruction[1]).table[instruction[2]])
 
 
 def bind(runner, instruction):
@@ -175,7 +175,7 @@ def make_exception(runner, instruction):
     """An exception value."""
     _, up, z, has_argument = instruction
     argument = runner.stack.pop() if has_argument else None
-    runner.stack.append(("exn", runner.frame.at(up).table[z], argument))
+    runner.stack.append(("exn", runner.frame.further(up).table[z], argument))
 
 
 def throw_value(runner, instruction):
@@ -196,7 +196,7 @@ def guard(runner, instruction):
 
 def selected(runner, instruction, kinds):
     """The value of the variable of a selection, which must be of one of these kinds."""
-    value = runner.frame.at(instruction[1]).table[instruction[2]]
+    value = runner.frame.further(instruction[1]).table[instruction[2]]
     if value[0] not in kinds:
         raise Ended(STUCK)
     return value
@@ -239,7 +239,7 @@ def unpack(runner, instruction):
         if place is None:
             raise Ended(STUCK)
         up, z = place
-        if runner.frame.at(up).table[z] == exception:
+        if runner.frame.further(up).table[z] == exception:
             enter_branch(runner, y, argument, row)
             return
     runner.enter(default, runner.frame)

@@ -3,7 +3,7 @@
 from guanaco.core import is_formed
 from guanaco.core_trees import children
 from guanaco.errors import GuanacoError
-from guanaco.forms import EXN, INT, STRING, UNIT, equal_types
+from guanaco.forms import EXN, INT, STRING, equal_types
 from guanaco.monos import instance, variables
 from guanaco.start import EXCEPTIONS, primitive_schemes
 

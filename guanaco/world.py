@@ -50,7 +50,7 @@ class World:
         self.made_exceptions.append(made)
         return made
 
-    def table(self):
+    def known_data(self):
         """The data types and exceptions as the functions of the matches look at them."""
         table = dict(self.data)
         table["exn"] = ((), tuple(list(self.exceptions.items())))

@@ -10,7 +10,12 @@ from generate import Maker
 from guanaco import errors
 from guanaco.checker import check, principal
 from guanaco.cover import missing, unused
+from guanaco.core import is_formed, measure_core
+from guanaco.corerun import run_core
 from guanaco.decisions import decide, follow
+from guanaco.define import run
+from guanaco.elaborate import elaborate, elaborate_with
+from guanaco.judge import is_typed
 from guanaco.monos import close, instance, nodes, scheme_ty, ty_scheme, unify, variables
 from guanaco.parser import parse, parse_expression, parse_ty
 from guanaco.printer import print_expression, print_program, print_ty
@@ -32,7 +37,8 @@ INTERFACE = {
     "printer": {"print_program": 1, "print_expression": 1, "print_ty": 1},
     "monos": {"substitute": 2, "variables": 1, "nodes": 1, "close": 1, "instance": 2, "scheme_ty": 1, "ty_scheme": 1, "unify": 1},
     "checker": {"check": 1, "check_with": 2, "principal": 1}, "cover": {"missing": 3, "unused": 3},
-    "decisions": {"decide": 3, "follow": 2},
+    "decisions": {"decide": 3, "follow": 2}, "define": {"run": 2}, "core": {"is_formed": 1, "measure_core": 1},
+    "judge": {"is_typed": 1}, "corerun": {"run_core": 2}, "elaborate": {"elaborate": 1, "elaborate_with": 2},
 }
 
 
@@ -79,6 +85,18 @@ class Answers(unittest.TestCase):
         self.assertEqual([answer(check, tree) for tree in reversed(trees)], list(reversed(first)))
         for text in ("fn x => x", "1 + True", "z", "ref []"):
             self.same(principal, parse_expression(text))
+
+    def test_runs(self):
+        trees = [parse(text) for text in PROGRAMS]
+        for tree in trees:
+            self.same(run, tree, 20)
+            core = self.same(elaborate, tree)
+            if len(core) == 3:
+                for function in (is_formed, is_typed, measure_core):
+                    self.same(function, core)
+                self.same(run_core, core, 20)
+        structures = (("A", (("x", (("a",), ("var", "a"))),)),)
+        self.same(elaborate_with, parse("val y = A.x : int"), structures)
 
     def test_types(self):
         ty = ("fun", ("var", 3), ("con", "list", (("var", "b"),)))
