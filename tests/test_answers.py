@@ -9,6 +9,7 @@ import unittest
 from generate import Maker
 from guanaco import errors
 from guanaco.checker import check, principal
+from guanaco.closures import convert, run_functions
 from guanaco.cover import missing, unused
 from guanaco.core import is_formed, measure_core
 from guanaco.corerun import run_core
@@ -17,8 +18,11 @@ from guanaco.define import run
 from guanaco.elaborate import elaborate, elaborate_with
 from guanaco.judge import is_typed
 from guanaco.monos import close, instance, nodes, scheme_ty, ty_scheme, unify, variables
+from guanaco.normal import is_closed, measure, normalize, renumber
+from guanaco.optimizer import optimize, reducible
 from guanaco.parser import parse, parse_expression, parse_ty
 from guanaco.printer import print_expression, print_program, print_ty
+from guanaco.running import run_normal
 from guanaco.tokens import read_tokens
 from guanaco.trees import height, names, size
 from values import BOOL, DATA, listed
@@ -39,6 +43,8 @@ INTERFACE = {
     "checker": {"check": 1, "check_with": 2, "principal": 1}, "cover": {"missing": 3, "unused": 3},
     "decisions": {"decide": 3, "follow": 2}, "define": {"run": 2}, "core": {"is_formed": 1, "measure_core": 1},
     "judge": {"is_typed": 1}, "corerun": {"run_core": 2}, "elaborate": {"elaborate": 1, "elaborate_with": 2},
+    "normal": {"normalize": 1, "is_closed": 1, "measure": 1, "renumber": 1}, "running": {"run_normal": 2},
+    "optimizer": {"reducible": 1, "optimize": 1}, "closures": {"convert": 1, "run_functions": 3},
 }
 
 
@@ -95,8 +101,17 @@ class Answers(unittest.TestCase):
                 for function in (is_formed, is_typed, measure_core):
                     self.same(function, core)
                 self.same(run_core, core, 20)
+                self.check_unit(core)
         structures = (("A", (("x", (("a",), ("var", "a"))),)),)
         self.same(elaborate_with, parse("val y = A.x : int"), structures)
+
+    def check_unit(self, core):
+        unit = self.same(normalize, core)
+        for function in (is_closed, measure, renumber, reducible):
+            self.same(function, unit[0])
+        self.same(optimize, unit)
+        self.same(run_normal, unit, 20)
+        self.same(run_functions, self.same(convert, unit), unit[1], 20)
 
     def test_types(self):
         ty = ("fun", ("var", 3), ("con", "list", (("var", "b"),)))
