@@ -116,9 +116,10 @@ def shown_exception(tables, value):
     """The end of a run with an exception value that nothing takes."""
     try:
         _, name, parts = tables.look_exception(value)
-        return ("raised", name, tables.typed_tree(*parts[0]) if parts else None)
+        trees = [tables.typed_tree(part, ty) for part, ty in parts]
     except Ended as error:
         return error.end
+    return ("raised", name, trees[0] if trees else None)
 
 
 def do_bind(machine, step):

@@ -5,7 +5,6 @@ PLAIN_PARTS = {
     "int": (), "string": (), "var": (), "fn": (3,), "apply": (1, 2), "part": (2,), "con": (4,), "pack": (2,),
     "raise": (2,), "handle": (1, 3), "let": (4,), "exception": (),
 }
-SELECTIONS = ("switch", "choose", "unpack")
 
 
 def children(tree):

@@ -56,7 +56,7 @@ def look(value):
 
 def first_environment(machine):
     """What is in scope at the start."""
-    table = {name: ("primitive", name) for name in (*OPERATIONS, *EFFECTS)}
+    table = {name: ("primitive", name) for name in [*list(OPERATIONS), *EFFECTS]}
     for name, has_argument in (("False", False), ("True", False), ("Nil", False), ("Cons", True)):
         table[(CONSTRUCTOR, name)] = ("con", name, has_argument)
     for name, exception in machine.base.items():

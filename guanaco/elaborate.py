@@ -65,7 +65,7 @@ def elaborate_with(program, structures):
 
 def first_environment(site, structures):
     """What is in scope at the start, with given structures."""
-    table = {name: ("primitive", name) for name in (*OPERATIONS, *EFFECTS)}
+    table = {name: ("primitive", name) for name in [*list(OPERATIONS), *EFFECTS]}
     for name in EXCEPTIONS:
         table[(CONSTRUCTOR, name)] = name
     for name, pairs in structures:

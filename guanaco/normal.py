@@ -1,7 +1,7 @@
 """The normal form: normalization, closed blocks, sizes and numbers (points 103 and 104)."""
 
 from guanaco.blocks import blocks_within, end_atoms, end_blocks, fold_block, names_bound
-from guanaco.blocks import operation_atoms, with_atoms, with_end
+from guanaco.blocks import operation_atoms, step_blocks, with_atoms, with_end
 from guanaco.errors import GuanacoError
 from guanaco.normalization import translated
 
@@ -43,19 +43,12 @@ def renamed(block, numbers):
         steps = []
         place = 0
         for step in part[0]:
-            count = width(step)
+            count = len(step_blocks(step))
             steps.append(renamed_step(step, numbers, new_atom, inner[place:place + count]))
             place += count
         atoms = [new_atom(atom) for atom in end_atoms(part[1])]
         return tuple(steps), with_end(part[1], atoms, inner[place:])
     return fold_block(block, blocks_within, combine)
-
-
-def width(step):
-    """The number of blocks directly within a step."""
-    if step[0] == "fix":
-        return len(step[1])
-    return {"bind": 0, "sub": 1, "guard": 2}[step[0]]
 
 
 def renamed_step(step, numbers, new_atom, blocks):

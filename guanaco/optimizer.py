@@ -38,7 +38,7 @@ def reducible_step(survey, step):
     tag = step[0]
     if tag == "bind":
         _, x, operation = step
-        if is_pure(operation) and survey.count(x) == 0:
+        if is_pure(operation) and survey.uses(x) == 0:
             return True
         return looks_inside(survey.operations, operation) is not None or computed(operation) is not None
     if tag == "sub":

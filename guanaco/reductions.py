@@ -36,7 +36,7 @@ class Survey:
         for group in groups:
             self.look_at_group(group, calls)
 
-    def count(self, name):
+    def uses(self, name):
         """How often a name occurs."""
         return self.counts.get(name, 0)
 
@@ -46,10 +46,10 @@ class Survey:
         for _, _, block in group:
             for name, count in count_names(block).items():
                 within[name] = within.get(name, 0) + count
-        if all([self.count(f) == within.get(f, 0) for f, _, _ in group]):
+        if all([self.uses(f) == within.get(f, 0) for f, _, _ in group]):
             self.unused[group[0][0]] = True
         f, parameter, block = group[0]
-        if len(group) == 1 and self.count(f) == 1 and f not in within and ("name", f) in calls and is_row(block):
+        if len(group) == 1 and self.uses(f) == 1 and f not in within and ("name", f) in calls and is_row(block):
             self.called[f] = (parameter, block)
 
 

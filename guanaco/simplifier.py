@@ -82,7 +82,7 @@ def do_bind(simplifier, step, draft):
         simplifier.atoms[x] = found
     elif operation[0] == "apply" and operation[1][1] in simplifier.survey.called:
         put_function(simplifier, x, operation, draft)
-    elif simplifier.survey.count(x) > 0 or not is_pure(operation):
+    elif simplifier.survey.uses(x) > 0 or not is_pure(operation):
         simplifier.operations[x] = operation
         draft.steps.append(("bind", x, operation))
 

@@ -1,7 +1,6 @@
 """Value trees (point 6)."""
 
 MOST_PARTS = 200
-DEEP = ("deep",)
 
 
 def value_tree(value, look):

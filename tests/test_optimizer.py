@@ -12,6 +12,7 @@ from guanaco.optimizer import optimize, reducible
 from guanaco.parser import parse
 from guanaco.running import run_normal
 from programs import Writer
+from random_units import Maker
 from running import agree
 from test_elaborate import PROGRAMS
 from units import BLOCKS, NO, bind, call, fix, give, i, n, of, prim, s, select, throw
@@ -194,6 +195,18 @@ class Optimized(unittest.TestCase):
                 unit = normalize(elaborate(tree))
                 self.optimized(unit, (0, 2, 9, 40, 20000))
                 self.assertEqual(optimize(optimize(unit)), optimize(unit))
+
+    def test_random_units(self):
+        for seed in range(200):
+            unit = Maker(random.Random(seed)).unit()
+            with self.subTest(seed):
+                self.assertTrue(is_closed(unit[0]))
+                block = self.optimized(unit, (0, 1, 2, 4, 9, 30, 2000))
+                self.assertNotEqual(run_normal(unit, 2000)[1], ("stuck",))
+                if reducible(unit[0]):
+                    self.assertLess(measure(block)[0], measure(unit[0])[0])
+                else:
+                    self.assertEqual(block, renumber(unit[0]))
 
     def test_other_names(self):
         """The numbers of the names do not matter."""
