@@ -125,6 +125,18 @@ class Formed(unittest.TestCase):
         self.bad(("pack", 1, None), ("pack", None, None), ("raise", INT, None), ("apply", ONE, None), ("part", 0, None))
         self.good(("pack", "nowhere", None), ("pack", "E.1", ONE))
 
+    def test_each_part_is_looked_at(self):
+        for place in (
+                lambda e: ("fn", "y.1", INT, e), lambda e: ("apply", e, ONE), lambda e: ("apply", ONE, e), lambda e: ("block", (), e),
+                lambda e: ("block", (let("y.1", INT, e),), ONE), lambda e: ("block", (("fix", (("f.1", (), INT, "n.2", INT, e),)),), ONE),
+                lambda e: ("block", (("fix", (("f.3", (), INT, "n.4", INT, ONE), ("f.1", (), INT, "n.2", INT, e))),), ONE),
+                lambda e: ("tuple", (ONE, e)), lambda e: ("part", 0, e), lambda e: ("con", "t.1", (), 1, e), lambda e: ("switch", "s", ((0, None, e),), ONE),
+                lambda e: ("switch", "s", (), e), lambda e: ("choose", "s", ((0, e),), ONE), lambda e: ("choose", "s", (), e),
+                lambda e: ("unpack", "s", (("E", None, e),), ONE), lambda e: ("unpack", "s", (), e), lambda e: ("pack", "E", e),
+                lambda e: ("raise", INT, e), lambda e: ("handle", e, "h.1", ONE), lambda e: ("handle", ONE, "h.1", e), lambda e: ("prim", "plus", (ONE, e))):
+            self.good(place(ONE))
+            self.bad(place(("int", "1")), place(("fn", "x.0", INT, ONE)))
+
     def test_selections(self):
         self.good(("switch", "s", (), ONE), ("switch", "s", (), None), ("switch", "s", ((3, None, ONE), (7, "y.1", ONE)), None),
                   ("choose", "s", (), ONE), ("unpack", "s", (), ONE))

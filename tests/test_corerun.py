@@ -93,6 +93,8 @@ class Runs(unittest.TestCase):
 
     def test_exceptions(self):
         self.assertEqual(run_core(of(("raise", INT, ("pack", "Div", None))), 5)[1], ("raised", "Div", None))
+        raised = block(("exception", "E.1", INT), ("raise", INT, ("pack", "E.1", ONE)))
+        self.assertEqual(run_core(of(raised), 5)[1], ("raised", "E", ONE))
         again = block(("fix", (("f.1", (), fun(UNIT, EXN), "u.2", UNIT, block(("exception", "E.3", None), let("e.4", EXN, ("pack", "E.3", None)),
                       ("tuple", (var("e.4"), ("fn", "x.5", EXN, ("unpack", "x.5", (("E.3", None, ONE),), ("int", 2)))))),),)),
                       let("a.6", INT, ("apply", var("f.1"), ("tuple", ()))), let("b.7", INT, ("apply", var("f.1"), ("tuple", ()))),
@@ -144,6 +146,8 @@ class Runs(unittest.TestCase):
         """Programs that are formed have no such constants, but the run is stuck at them all the same."""
         self.assertEqual(run_core(of(("int", 2000000001)), 5)[1], STUCK)
         self.assertEqual(run_core(of(("string", "x" * 201)), 5)[1], STUCK)
+        for e, ty in ((("int", 2000000000), INT), (("int", -2000000000), INT), (("string", "x" * 200), STRING)):
+            self.assertEqual(value(e, ty), e)
 
     def test_many(self):
         def count(effect, times):

@@ -142,6 +142,10 @@ class Primitives(unittest.TestCase):
             "digits 120": ("string", "120"), "digits ~7": ("string", "~7"), "digits 0": ("string", "0"),
         })
 
+    def test_constants(self):
+        text = "x" * 200
+        self.check({f'"{text}"': ("string", text), str(BIG): integer(BIG), f"~{BIG}": integer(-BIG)})
+
     def test_print_and_references(self):
         self.assertEqual(ran('val x = print "a" val y = (print "b"; 2)'),
                          (("a", "b"), ("done", (("x", ("tuple", ())), ("y", integer(2))))))

@@ -187,6 +187,15 @@ class Agreement(unittest.TestCase):
         self.agrees(parse(text + "val y = S7.x"), (0,))
 
 
+    def test_hidden_types_that_stand_for_far_too_large_ones(self):
+        """A type of so many nodes can not be written out."""
+        text = "structure S0 :> sig type t val f : t -> t end = struct type t = int * int fun f x = x end "
+        for k in range(1, 25):
+            text += f"structure S{k} :> sig type t val f : t -> t end = struct type t = S{k - 1}.t * S{k - 1}.t fun f x = x end "
+        with self.assertRaises(errors.GuanacoError):
+            elaborate(parse(text))
+
+
 class Cores(unittest.TestCase):
     def test_types_without_constructors_do_not_occur(self):
         for text in PROGRAMS:
@@ -210,6 +219,13 @@ class Cores(unittest.TestCase):
         core = elaborate(parse("datatype t = A of u and u = B datatype v = C val x = [A B]"))
         self.assertEqual([entry[0] for entry in core[0]], ["bool", "list", "t.1", "u.2"])
         self.assertEqual(core[0][2:], check(parse("datatype t = A of u and u = B datatype v = C val x = [A B]"))[1][2:4])
+
+    def test_data_that_occur_in_one_place(self):
+        types = "datatype a = A datatype b = B of c and c = C of a datatype d = D "
+        for text, wanted in (("exception E of b", "abc"), ("val f = fn x => (x : a)", "a"), ("fun f x = raise Div val y = f (D : d)", "d"),
+                             ("val x = []", ""), ("val x = (fn x => 1) ((raise Div) : b)", "abc"), ("val x = (A; 1)", "a"), ("val x = 1", "")):
+            names = [entry[0][0] for entry in elaborate(parse(types + text))[0][2:]]
+            self.assertEqual("".join(names), wanted, text)
 
     def test_shown(self):
         core = elaborate(parse("val x = 1 fun f y = y val x = (\"a\", f)"))

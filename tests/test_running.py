@@ -166,7 +166,7 @@ class Runs(unittest.TestCase):
 
     def test_what_is_shown_is_of_another_kind(self):
         for atom, ty in ((NO, INT), (s("a"), INT), (i(1), STRING), (i(1), UNIT), (("tag", 1), UNIT), (i(1), BOOL), (("tag", 2), BOOL),
-                         (NO, ("tuple", (INT, INT))), (i(1), fun(INT, INT)), (i(1), EXN), (NO, held(INT)), (("tag", 1), listed(INT)), (("tag", 1), T)):
+                         (NO, ("tuple", (INT, INT))), (i(1), fun(INT, INT)), (i(1), EXN), (NO, held(INT)), (("tag", 1), listed(INT)), (("tag", 1), T), (i(1), T), (i(0), T)):
             self.assertEqual(self.value(give(atom), ty), STUCK, (atom, ty))
         for operation, ty in ((("tuple", (i(1), i(2))), ("tuple", (INT, INT, INT))), (("make", 0, i(1)), T), (("make", 1, s("a")), T), (("make", 2, i(1)), T),
                               (("pack", i(1), i(1)), EXN), (("tuple", (i(1), i(2))), ("tuple", (INT, STRING)))):
