@@ -1,6 +1,6 @@
 """What the places of point 106 have in common: facts about names, pure operations, and what can be computed."""
 
-from guanaco.blocks import all_blocks, count_names
+from guanaco.blocks import all_blocks, blocks_of_call, count_names, end_atoms, operation_atoms
 from guanaco.primitives import OPERATIONS, Raised
 
 PURE = ("tuple", "part", "make", "arg", "pack", "fresh")
@@ -51,6 +51,41 @@ class Survey:
         f, parameter, block = group[0]
         if len(group) == 1 and self.uses(f) == 1 and f not in within and ("name", f) in calls and is_row(block):
             self.called[f] = (parameter, block)
+
+
+def needed_names(block):
+    """The dict of the names that a run may need, and of more keys. What is bound to others can be omitted."""
+    needs = {None: []}
+    work = [(block, None)]
+    while work:
+        part, owner = work.pop()
+        for step in part[0]:
+            if step[0] == "bind":
+                key = step[1] if is_pure(step[2]) else owner
+                needs.setdefault(key, []).extend(names_of(operation_atoms(step[2])))
+            elif step[0] == "fix":
+                # Functions of a group are needed together, and so is what their blocks do.
+                group = ("fix", step[1][0][0])
+                needs[group] = []
+                for f, _, inner in step[1]:
+                    needs[f] = [group]
+                    work.append((inner, group))
+        needs[owner].extend(names_of(end_atoms(part[1])))
+        for inner in blocks_of_call(part):
+            work.append((inner, owner))
+    found = {None: True}
+    waiting = [None]
+    while waiting:
+        for key in needs.get(waiting.pop(), []):
+            if key not in found:
+                found[key] = True
+                waiting.append(key)
+    return found
+
+
+def names_of(atoms):
+    """The list of the names among atoms."""
+    return [atom[1] for atom in atoms if atom[0] == "name"]
 
 
 def is_row(block):

@@ -1,7 +1,7 @@
 """One walk through a block that reduces it at the places of point 106 (point 107)."""
 
 from guanaco.blocks import end_atoms, operation_atoms, with_atoms
-from guanaco.reductions import Survey, computed, is_pure, known_number, looks_inside
+from guanaco.reductions import Survey, computed, is_pure, known_number, looks_inside, needed_names
 
 NOTHING = ("tag", 0)
 
@@ -17,12 +17,14 @@ class Draft:
 class Simplifier:
     """What is still to be looked at, the next thing last, and the blocks that were made.
 
+    `called` has the functions that may be put in the place of their only call, `needed` the names that are needed;
     `atoms` has what stands for names, `operations` what names are bound to, `numbers` the constructors of names
     within branches. An entry of `work` is a function of this file, what it is about, and a draft.
     """
 
-    def __init__(self, survey):
-        self.survey = survey
+    def __init__(self, block):
+        self.called = Survey(block).called
+        self.needed = needed_names(block)
         self.atoms = {}
         self.operations = {}
         self.numbers = {}
@@ -53,7 +55,7 @@ class Simplifier:
 
 def simplified(block):
     """The block, reduced at all places at which a single walk can do it."""
-    simplifier = Simplifier(Survey(block))
+    simplifier = Simplifier(block)
     simplifier.later_block(block)
     while simplifier.work:
         action, thing, draft = simplifier.work.pop()
@@ -76,13 +78,15 @@ def do_step(simplifier, step, draft):
 def do_bind(simplifier, step, draft):
     """A step that names the result of an operation."""
     _, x, operation = step
+    if x not in simplifier.needed and is_pure(operation):
+        return
     operation = with_atoms(operation, [simplifier.atom(atom) for atom in operation_atoms(operation)])
     found = replacement(simplifier, operation)
     if found is not None:
         simplifier.atoms[x] = found
-    elif operation[0] == "apply" and operation[1][1] in simplifier.survey.called:
+    elif operation[0] == "apply" and operation[1][0] == "name" and operation[1][1] in simplifier.called:
         put_function(simplifier, x, operation, draft)
-    elif simplifier.survey.uses(x) > 0 or not is_pure(operation):
+    else:
         simplifier.operations[x] = operation
         draft.steps.append(("bind", x, operation))
 
@@ -100,7 +104,7 @@ def replacement(simplifier, operation):
 
 def put_function(simplifier, x, operation, draft):
     """Puts the steps of a function in the place of its only call."""
-    parameter, (steps, end) = simplifier.survey.called[operation[1][1]]
+    parameter, (steps, end) = simplifier.called[operation[1][1]]
     simplifier.atoms[parameter] = operation[2]
     simplifier.later(end_function, (x, end), draft)
     for step in reversed(steps):
@@ -166,7 +170,7 @@ def end_guard(simplifier, thing, draft):
 def do_fix(simplifier, step, draft):
     """A step of functions."""
     group = step[1]
-    if group[0][0] in simplifier.survey.unused or group[0][0] in simplifier.survey.called:
+    if ("fix", group[0][0]) not in simplifier.needed or group[0][0] in simplifier.called:
         return
     simplifier.later(end_fix, group, draft)
     for _, _, block in reversed(group):

@@ -170,6 +170,22 @@ class Optimized(unittest.TestCase):
                          ("sub", 81, select("choose", n(83), ((7, dead),), give(i(1)))))
             self.optimized(of(block))
 
+    def test_an_integer_is_no_function(self):
+        """It is applied where no run comes, and is the number of the name of a function."""
+        dead = give(n(1), call(1, i(50), i(2)))
+        block = give(n(81), fix((50, 51, give(n(51)))), call(52, n(50), i(3)), prim(82, "ref", n(52)), prim(83, "get", n(82)),
+                     ("sub", 81, select("choose", n(83), ((7, dead),), give(n(83)))))
+        self.optimized(of(block))
+
+    def test_what_is_not_needed(self):
+        """What is used only in vain is not needed, either."""
+        chain = [bind(1, "tuple", (i(1),))] + [bind(k, "tuple", (n(k - 1),)) for k in range(2, 40)]
+        self.becomes(give(NO, *chain), give(NO))
+        used = fix((50, 51, give(n(53), bind(52, "tuple", (n(1),)), call(53, n(51), n(52)))))
+        self.becomes(give(NO, *chain, used, fix((54, 55, give(n(56), call(56, n(50), n(39)))))), give(NO))
+        kept = give(n(54), *chain, used, fix((54, 55, give(n(57), call(56, n(50), n(39)), call(57, n(50), n(50))))))
+        self.assertEqual(measure(optimize((kept, ((), (), ())))[0]), measure(kept))
+
     def test_blocks(self):
         for block, ty in BLOCKS.values():
             self.optimized(of(block, ty))
