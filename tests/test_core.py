@@ -120,6 +120,7 @@ class Formed(unittest.TestCase):
         self.bad(("tuple", (ONE,)), ("tuple", (ONE,) * 7), ("tuple", ONE), ("con", "u.9", (), 0, None),
                  ("con", "t.1", (INT,), 0, None), ("con", "list", (), 0, None), ("con", 1, (), 0, None))
         self.good(("tuple", (ONE,) * 6))
+        self.bad(("var", 1, ()), ("var", None, ()), ("var", "x", None), ("var", "x", INT), ("apply", ONE, INT), ("block", ONE, ONE))
         self.bad(("prim", "plus", (ONE,)), ("prim", "digits", (ONE, ONE)), ("prim", "other", (ONE,)), ("prim", "plus", ()),
                  ("prim", 1, (ONE,)), ("prim", "get", (ONE, ONE)), ("prim", "assign", (ONE,)), ("prim", "print", ()))
         self.bad(("pack", 1, None), ("pack", None, None), ("raise", INT, None), ("apply", ONE, None), ("part", 0, None))

@@ -223,7 +223,7 @@ class Cores(unittest.TestCase):
     def test_data_that_occur_in_one_place(self):
         types = "datatype a = A datatype b = B of c and c = C of a datatype d = D "
         for text, wanted in (("exception E of b", "abc"), ("val f = fn x => (x : a)", "a"), ("fun f x = raise Div val y = f (D : d)", "d"),
-                             ("val x = []", ""), ("val x = (fn x => 1) ((raise Div) : b)", "abc"), ("val x = (A; 1)", "a"), ("val x = 1", "")):
+                             ("val x = []", ""), ("val f = fn x => (x : a list)", "a"), ("val f = fn x => (x : int -> d)", "d"), ("val x = (fn x => 1) ((raise Div) : b)", "abc"), ("val x = (A; 1)", "a"), ("val x = 1", "")):
             names = [entry[0][0] for entry in elaborate(parse(types + text))[0][2:]]
             self.assertEqual("".join(names), wanted, text)
 
