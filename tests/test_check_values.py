@@ -160,6 +160,16 @@ class Generalizing(CheckTests):
                       "fn f => let val g = f in (g 1, g True) end",
                       "let fun f x = let val g = f in (g 1, g True) end in f end")
 
+    def test_names_that_became_parts_of_others(self):
+        """Variables in what a name around is made equal to, or in a name without quantified variables, are not quantified."""
+        self.has_none(
+            'fn x => let val f = fn z => if True then x else [z] in (f 1, f "a") end',
+            'fn x => let val f = fn z => if True then x else (z, [z]) in (f 1, f "a") end',
+            'let val r = ref [] val f = fn z => r in (f () := [1]; f () := ["a"]) end',
+            'let val (r, _) = (ref [], 1) val f = fn z => (z, !r) in (r := [1]; case f () of (_, [s]) => s ^ "" | _ => "") end',
+            'fn x => let val y = (fn z => [z]) x val f = fn _ => y in (1 :: f (), "a" :: f ()) end')
+        self.has_type({"fn x => let val f = fn z => (x, z) in (f 1, f True) end": "'a -> ('a * int) * ('a * bool)"})
+
     def test_functions_of_one_fun(self):
         self.assertEqual(bindings_of("fun f x = g x and g x = x"), {"f": "'a -> 'a", "g": "'a -> 'a"})
         self.assertEqual(bindings_of("fun even 0 = True | even n = odd (n - 1) and odd 0 = False | odd n = even (n - 1)"),

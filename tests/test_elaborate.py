@@ -13,6 +13,7 @@ from guanaco.elaborate import elaborate, elaborate_with
 from guanaco.expansion import expanded_size
 from guanaco.judge import is_typed
 from guanaco.parser import parse
+from module_programs import ModuleWriter
 from programs import Writer
 from running import agree
 from test_define import Stuck
@@ -140,6 +141,19 @@ class Agreement(unittest.TestCase):
             with self.subTest(seed):
                 self.agrees(program, (0, 1, 4, 20, 20000))
         self.assertGreater(count, 100)
+
+    def test_random_modules(self):
+        applied = 0
+        for seed in range(150):
+            text = ModuleWriter(random.Random(seed)).program()
+            try:
+                program = parse(text)
+            except errors.LimitError:
+                continue
+            applied += "structure A" in text
+            with self.subTest(text):
+                self.agrees(program, (0, 3, 2000))
+        self.assertGreater(applied, 50)
 
     def test_errors(self):
         texts = ["val x = 1 " + text for text in (
