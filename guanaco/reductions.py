@@ -76,7 +76,8 @@ def needed_names(block):
     found = {None: True}
     waiting = [None]
     while waiting:
-        for key in needs.get(waiting.pop(), []):
+        wanted = needs.get(waiting.pop(), [])
+        for key in wanted:
             if key not in found:
                 found[key] = True
                 waiting.append(key)
