@@ -53,7 +53,8 @@ def convert(unit):
     plan = Plan(block)
     number_functions(plan, block)
     find_free_names(plan)
-    plan.functions[0].parameter = plan.first_parameter()
+    first = plan.functions[0]
+    first.parameter = plan.first_parameter()
     found = []
     for number, function in enumerate(plan.functions):
         steps, end = converted(plan, function.block)

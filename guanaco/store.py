@@ -87,7 +87,8 @@ def read_reference(store, parts):
 
 def write_reference(store, parts):
     """Changes what a reference holds."""
-    cell_of(parts[0]).content = parts[1]
+    cell = cell_of(parts[0])
+    cell.content = parts[1]
     return store.nothing
 
 

@@ -25,6 +25,16 @@ class Layout(unittest.TestCase):
                 if isinstance(node, ast.FunctionDef):
                     self.assertLessEqual(node.end_lineno - node.lineno + 1, 40, (path.name, node.name))
 
+    def test_attributes_are_assigned_through_local_names(self):
+        for path in FILES:
+            tree = ast.parse(path.read_text())
+            top = [name.id for node in tree.body if isinstance(node, ast.Assign) for name in node.targets]
+            top += [node.name for node in tree.body if isinstance(node, ast.ClassDef)]
+            for node in ast.walk(tree):
+                if isinstance(node, ast.Attribute) and not isinstance(node.ctx, ast.Load):
+                    self.assertIsInstance(node.value, ast.Name, (path.name, node.lineno))
+                    self.assertNotIn(node.value.id, top, (path.name, node.lineno))
+
     def test_imports(self):
         """Only full names of the package are imported, and no two files import from each other."""
         imports = {}
