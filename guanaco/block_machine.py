@@ -1,9 +1,13 @@
-"""Runs of functions without free variables (points 105 and 108)."""
+"""Runs of functions without free variables (points 105 and 108).
+
+Values are `("int", n)`, `("string", s)`, `("tag", k)`, `("tuple", values)`, `("make", k, value)`,
+`("pack", exception, value or None)`, `("close", number, environment)` and `("ref", cell)`.
+"""
 
 from guanaco.primitives import Raised
 from guanaco.start import EXCEPTIONS
-from guanaco.store import Ended, Store
-from guanaco.typed_values import Tables
+from guanaco.store import Ended, Store, kinds_chosen
+from guanaco.typed_values import Tables, finished, shown_values
 
 STUCK = ("stuck",)
 EMPTY = ("tag", 0)
@@ -18,7 +22,7 @@ class Machine:
 
     def __init__(self, functions, fuel):
         self.functions = functions
-        self.store = Store(fuel, EMPTY, ("tag", 1), EMPTY)
+        self.ledger = Store(fuel, EMPTY, ("tag", 1), EMPTY)
         self.declared = []
         self.waiting = []
         self.frame = {}
@@ -87,39 +91,22 @@ class Machine:
 def run_blocks(functions, info, fuel):
     """The run of functions, beginning with function 0."""
     machine = Machine(functions, fuel)
-    tables = Tables(info, machine.declared)
+    tables = Tables(info, machine.declared, object_of)
     try:
-        end = shown(info[0], tables, machine.go())
+        end = shown_values(tables, machine.go())
     except Ended as error:
         end = error.end
-    if end[0] == "raised":
-        end = shown_exception(tables, end[1])
-    return tuple(machine.store.outputs), end
+    return tuple(machine.ledger.outputs), finished(tables, end)
 
 
-def shown(entries, tables, value):
-    """The end of a run whose value is that of function 0."""
-    parts = ()
-    if entries:
-        if value[0] != "tuple" or len(value[1]) != len(entries):
-            raise Ended(STUCK)
-        parts = value[1]
-    elif value != EMPTY:
-        raise Ended(STUCK)
-    bindings = []
-    for (name, _, _, _, ty), part in zip(entries, parts):
-        bindings.append((name, tables.typed_tree(part, ty)))
-    return ("done", tuple(bindings))
-
-
-def shown_exception(tables, value):
-    """The end of a run with an exception value that nothing takes."""
-    try:
-        _, name, parts = tables.look_exception(value)
-        trees = [tables.typed_tree(part, ty) for part, ty in parts]
-    except Ended as error:
-        return error.end
-    return ("raised", name, trees[0] if trees else None)
+def object_of(value):
+    """What a value is, for its value tree."""
+    kind, word, *rest = value
+    if kind == "tuple":
+        return kind, None, word
+    if kind == "ref":
+        return kind, None, (word.content,)
+    return kind, word, tuple([part for part in rest if part is not None])
 
 
 def do_bind(machine, step):
@@ -145,9 +132,9 @@ def do_guard(machine, step):
 def do_prim(machine, name, operation):
     """A primitive."""
     parts = [machine.read(atom) for atom in operation[2]]
-    machine.store.spend()
+    machine.ledger.spend()
     try:
-        machine.frame[name] = machine.store.primitive(operation[1], parts)
+        machine.frame[name] = machine.ledger.primitive(operation[1], parts)
     except Raised as error:
         machine.throw(("pack", EXCEPTIONS.index(error.name), None))
 
@@ -156,7 +143,7 @@ def do_apply(machine, name, operation):
     """An application."""
     function = machine.read(operation[1])
     argument = machine.read(operation[2])
-    machine.store.spend()
+    machine.ledger.spend()
     if function[0] != "close":
         raise Ended(STUCK)
     steps, end = machine.block
@@ -236,7 +223,7 @@ def end_switch(machine, end):
 def end_choose(machine, end):
     """Selects by an integer or a string."""
     value = machine.read(end[1])
-    if value[0] not in ("int", "string"):
+    if value[0] not in kinds_chosen(end[2]):
         raise Ended(STUCK)
     go_on(machine, end, value[1])
 
@@ -258,7 +245,10 @@ def end_unpack(machine, end):
     if value[0] != "pack":
         raise Ended(STUCK)
     for z, block in end[2]:
-        if machine.read(z) == ("int", value[1]):
+        exception = machine.read(z)
+        if exception[0] != "int":
+            raise Ended(STUCK)
+        if exception[1] == value[1]:
             machine.enter(block, machine.frame)
             return
     machine.enter(end[3], machine.frame)

@@ -7,6 +7,7 @@ from guanaco.core_steps import bind, call, choose, close, declare_exception, fai
 from guanaco.core_steps import make_exception, make_tuple, part, prim, push, switch, throw_value, unpack
 from guanaco.primitives import LONGEST_STRING, in_range
 from guanaco.start import EXCEPTIONS
+from guanaco.store import kinds_chosen
 
 
 class Coder:
@@ -225,7 +226,7 @@ def visit_selection(coder, e, row):
         instruction = (switch, up, x, table, other)
     elif tag == "choose":
         table = {c: coder.new_row(inner) for c, inner in branches}
-        instruction = (choose, up, x, table, other, kinds_of(branches))
+        instruction = (choose, up, x, table, other, kinds_chosen(branches))
     else:
         rows = []
         for z, y, inner in branches:
@@ -233,13 +234,6 @@ def visit_selection(coder, e, row):
             rows.append((None if above is None else (above, z), y, branch_row(coder, y, inner)))
         instruction = (unpack, up, x, rows, other)
     row.append((fail,) if up is None else instruction)
-
-
-def kinds_of(branches):
-    """The kinds of values that a `choose` can select by."""
-    if not branches:
-        return ("int", "string")
-    return ("string",) if isinstance(branches[0][0], str) else ("int",)
 
 
 def visit_prim(coder, e, row):

@@ -41,7 +41,7 @@ class Runner:
     """
 
     def __init__(self, row, fuel):
-        self.store = Store(fuel, NO, YES, NOTHING)
+        self.ledger = Store(fuel, NO, YES, NOTHING)
         self.base = {name: Exn(name) for name in ("Overflow", "Div", "Size", "Subscript")}
         self.row = row
         self.index = 0
@@ -134,7 +134,7 @@ def call(runner, instruction):
     """Applies a function."""
     argument = runner.stack.pop()
     function = runner.stack.pop()
-    runner.store.spend()
+    runner.ledger.spend()
     if function[0] != "closure":
         raise Ended(STUCK)
     _, x, row, frame = function
@@ -145,9 +145,9 @@ def prim(runner, instruction):
     """Applies a primitive."""
     _, name, count = instruction
     parts = runner.take(count)
-    runner.store.spend()
+    runner.ledger.spend()
     try:
-        runner.stack.append(runner.store.primitive(name, parts))
+        runner.stack.append(runner.ledger.primitive(name, parts))
     except Raised as error:
         runner.throw(("exn", runner.base[error.name], None))
 

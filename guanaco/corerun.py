@@ -13,9 +13,9 @@ def run_core(core, fuel):
     try:
         runner.go()
     except Ended as error:
-        return tuple(runner.store.outputs), shown_end(error.end)
+        return tuple(runner.ledger.outputs), shown_end(error.end)
     bindings = [(entry[0], value_tree(value, look)) for entry, value in zip(shown, runner.stack)]
-    return tuple(runner.store.outputs), ("done", tuple(bindings))
+    return tuple(runner.ledger.outputs), ("done", tuple(bindings))
 
 
 def shown_end(end):

@@ -26,9 +26,9 @@ def run(program, fuel):
     try:
         machine.go()
     except Ended as error:
-        return tuple(machine.store.outputs), shown_end(error.end)
+        return tuple(machine.ledger.outputs), shown_end(error.end)
     bindings = [(name, value_tree(value, look)) for name, value in place.bound.items()]
-    return tuple(machine.store.outputs), ("done", tuple(bindings))
+    return tuple(machine.ledger.outputs), ("done", tuple(bindings))
 
 
 def shown_end(end):

@@ -22,7 +22,7 @@ class Machine:
     def __init__(self, fuel):
         yes = ("con", "True", None)
         no = ("con", "False", None)
-        self.store = Store(fuel, no, yes, ("tuple", ()))
+        self.ledger = Store(fuel, no, yes, ("tuple", ()))
         self.base = {name: Exn(name) for name in ("Overflow", "Div", "Size", "Subscript")}
         self.work = []
         self.done = []
@@ -108,10 +108,10 @@ def end_app(machine, what, env):
     function = machine.done.pop()
     kind = function[0]
     if kind == "closure":
-        machine.store.spend()
+        machine.ledger.spend()
         take_rule(machine, function[1], function[2], argument)
     elif kind == "primitive":
-        machine.store.spend()
+        machine.ledger.spend()
         apply_primitive(machine, function[1], argument)
     elif kind == "maker":
         machine.done.append((function[1], function[2], argument))
@@ -127,7 +127,7 @@ def apply_primitive(machine, name, argument):
             raise Ended(STUCK)
         parts = argument[1]
     try:
-        machine.done.append(machine.store.primitive(name, parts))
+        machine.done.append(machine.ledger.primitive(name, parts))
     except Raised as error:
         throw(machine, ("exn", machine.base[error.name], None))
 

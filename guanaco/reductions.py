@@ -19,7 +19,7 @@ class Survey:
     """
 
     def __init__(self, block):
-        self.counts = count_names(block)
+        self.occurrences = count_names(block)
         self.operations = {}
         self.called = {}
         self.unused = {}
@@ -38,7 +38,7 @@ class Survey:
 
     def uses(self, name):
         """How often a name occurs."""
-        return self.counts.get(name, 0)
+        return self.occurrences.get(name, 0)
 
     def look_at_group(self, group, calls):
         """Notes a group that is not used, or a function that is called once and occurs nowhere else."""

@@ -99,6 +99,13 @@ def cell_of(value):
     return value[1]
 
 
+def kinds_chosen(branches):
+    """The kinds of values that a `choose` with these branches can select by."""
+    if not branches:
+        return ("int", "string")
+    return ("string",) if isinstance(branches[0][0], str) else ("int",)
+
+
 PRIMITIVE_EFFECTS = {
     "print": show, "ref": make_reference, "get": read_reference, "assign": write_reference,
 }

@@ -97,10 +97,10 @@ class Runs(unittest.TestCase):
                     self.stuck(block)
             for other, end in (("switch", ("switch", n(700), ((0, give(i(1))),), give(i(1)))), ("int", ("choose", n(700), ((1, give(i(1))),), give(i(1)))),
                                ("string", ("choose", n(700), (("a", give(i(1))),), give(i(1)))), ("unpack", ("unpack", n(700), (), give(i(1))))):
-                fits = {"switch": ("tag", "make"), "unpack": ("pack",), "int": ("int", "string"), "string": ("int", "string")}[other]
+                fits = {"switch": ("tag", "make"), "unpack": ("pack",), "int": ("int",), "string": ("string",)}[other]
                 if kind in fits:
                     self.assertEqual(self.value((first + (maker,), end)), i(1))
-                elif other in ("switch", "unpack"):
+                else:
                     self.stuck((first + (maker,), end))
             thrown = first + (maker,), ("throw", n(700))
             if kind == "pack":
