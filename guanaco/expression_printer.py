@@ -1,5 +1,6 @@
 """The texts of patterns, expressions and of the declarations that may stand in a `let` (point 19)."""
 
+from guanaco.tokens import string_text
 from guanaco.ty_printer import ANY_TY, in_brackets, path_text, ty_text
 
 # How tight a pattern must be for a place: any pattern, one without `::`, an atom.
@@ -26,12 +27,6 @@ ORELSE = ("orelse", 3, 4, 3)
 ANDALSO = ("andalso", 4, 5, 4)
 CONS = ("::", 7, 8, 7)
 PREFIXES = {"get": "!", "negate": "~"}
-
-
-def string_text(text):
-    """The text of a string."""
-    escaped = text.replace("\\", "\\\\").replace("\"", "\\\"").replace("\n", "\\n")
-    return "\"" + escaped + "\""
 
 
 def number_text(n):

@@ -143,3 +143,9 @@ def read_string(text, start):
             found.append(sign)
             at += 1
     raise TokenError(start)
+
+
+def string_text(text):
+    """The text of the string token that stands for a text."""
+    escaped = text.replace("\\", "\\\\").replace("\"", "\\\"").replace("\n", "\\n")
+    return "\"" + escaped + "\""
