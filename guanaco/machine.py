@@ -23,7 +23,7 @@ class Frame:
         self.row = row
         self.slots = slots
         self.receiver = receiver
-        self.next = 0
+        self.at = 0
         self.guards = []
 
 
@@ -55,8 +55,8 @@ class Machine:
         """Executes instructions until the run ends. The value of function 0."""
         while self.result is None:
             frame = self.frames[-1]
-            instruction = frame.row[frame.next]
-            frame.next += 1
+            instruction = frame.row[frame.at]
+            frame.at += 1
             self.executed += 1
             action = INSTRUCTIONS[instruction[0]]
             action(self, frame, instruction)
@@ -109,7 +109,7 @@ class Machine:
         while self.frames:
             frame = self.frames[-1]
             if frame.guards:
-                slot, frame.next = frame.guards.pop()
+                slot, frame.at = frame.guards.pop()
                 frame.slots[slot] = value
                 return
             self.leave()
@@ -309,7 +309,7 @@ def do_tail(machine, frame, instruction):
     _, number, fields = machine.object_of(frame.slots[f], "close")
     frame.slots = {0: fields[0], 1: frame.slots[a]}
     frame.row = machine.code[number][1]
-    frame.next = 0
+    frame.at = 0
 
 
 def do_return(machine, frame, instruction):
@@ -325,7 +325,7 @@ def do_return(machine, frame, instruction):
 
 def do_jump(machine, frame, instruction):
     """Goes on with another instruction."""
-    frame.next = instruction[1]
+    frame.at = instruction[1]
 
 
 def do_switch(machine, frame, instruction):
@@ -350,10 +350,10 @@ def jump_by(frame, instruction, selector):
     """Goes on with a branch."""
     for key, target in instruction[2]:
         if key == selector:
-            frame.next = target
+            frame.at = target
             return
     demand(instruction[3] is not None)
-    frame.next = instruction[3]
+    frame.at = instruction[3]
 
 
 def do_same(machine, frame, instruction):
@@ -361,7 +361,7 @@ def do_same(machine, frame, instruction):
     _, s, z, target = instruction
     _, found, _ = machine.object_of(frame.slots[s], "pack")
     if found == word_of(machine, frame.slots[z], "int"):
-        frame.next = target
+        frame.at = target
 
 
 def do_guard(machine, frame, instruction):

@@ -3,7 +3,7 @@
 from guanaco.blocks import blocks_within, end_atoms, end_blocks, fold_block, names_bound
 from guanaco.blocks import operation_atoms, step_blocks, with_atoms, with_end
 from guanaco.errors import GuanacoError
-from guanaco.normalization import translated
+from guanaco.normalization import translated, translated_unit
 
 
 class Unclosed(GuanacoError):
@@ -14,6 +14,13 @@ def normalize(core):
     """The unit of the normal form of a core program."""
     data, _, shown = core
     block, exceptions = translated(core)
+    return renumber(block), (shown, data, exceptions)
+
+
+def normalize_unit(core, imports):
+    """The unit of the normal form of a unit, whose imports are as in `translated_unit`."""
+    data, _, shown = core
+    block, exceptions = translated_unit(core, imports)
     return renumber(block), (shown, data, exceptions)
 
 

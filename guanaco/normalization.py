@@ -63,9 +63,31 @@ class Normalizer:
 
 def translated(core):
     """The block of a core program, and the exceptions that it declares."""
-    _, declarations, shown = core
+    return translate(Normalizer(), core, [])
+
+
+def translated_unit(core, imports):
+    """As `translated`, for the block of a unit, which gives a function of the tuple of its imports' values.
+
+    `imports` has the index of an import, and the pairs of a variable and an index of its values, for each one with
+    values.
+    """
     normalizer = Normalizer()
+    f = normalizer.fresh()
+    p = normalizer.fresh()
     steps = []
+    for place, values in imports:
+        y = normalizer.fresh()
+        steps.append(("bind", y, ("part", place, ("name", p))))
+        for x, index in values:
+            steps.append(("bind", normalizer.bind(x), ("part", index, ("name", y))))
+    block, exceptions = translate(normalizer, core, steps)
+    return ((("fix", ((f, p, block),)),), ("give", ("name", f))), exceptions
+
+
+def translate(normalizer, core, steps):
+    """As `translated`, with steps at the beginning of the block."""
+    _, declarations, shown = core
     normalizer.later(end_program, [x for _, _, x, _, _ in shown], steps)
     for declaration in reversed(declarations):
         normalizer.later(declare, declaration, steps)

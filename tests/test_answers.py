@@ -8,23 +8,33 @@ import unittest
 
 from generate import Maker
 from guanaco import errors
+from guanaco.assembly import read_code, write_code
+from guanaco.build import Build
 from guanaco.checker import check, principal
 from guanaco.closures import convert, run_functions
+from guanaco.compiler import compile_program
 from guanaco.cover import missing, unused
 from guanaco.core import is_formed, measure_core
 from guanaco.corerun import run_core
 from guanaco.decisions import decide, follow
 from guanaco.define import run
 from guanaco.elaborate import elaborate, elaborate_with
+from guanaco.emitter import emit
+from guanaco.heap import Heap
+from guanaco.inspect import is_sound
 from guanaco.judge import is_typed
+from guanaco.linker import link
+from guanaco.machine import run_code, trace
 from guanaco.monos import close, instance, nodes, scheme_ty, ty_scheme, unify, variables
 from guanaco.normal import is_closed, measure, normalize, renumber
 from guanaco.optimizer import optimize, reducible
 from guanaco.parser import parse, parse_expression, parse_ty
 from guanaco.printer import print_expression, print_program, print_ty
 from guanaco.running import run_normal
+from guanaco.session import session
 from guanaco.tokens import read_tokens
 from guanaco.trees import height, names, size
+from guanaco.units import compile_unit, read_object, write_object
 from values import BOOL, DATA, listed
 
 PROGRAMS = (
@@ -45,6 +55,13 @@ INTERFACE = {
     "judge": {"is_typed": 1}, "corerun": {"run_core": 2}, "elaborate": {"elaborate": 1, "elaborate_with": 2},
     "normal": {"normalize": 1, "is_closed": 1, "measure": 1, "renumber": 1}, "running": {"run_normal": 2},
     "optimizer": {"reducible": 1, "optimize": 1}, "closures": {"convert": 1, "run_functions": 3},
+    "assembly": {"write_code": 1, "read_code": 1}, "inspect": {"is_sound": 1}, "emitter": {"emit": 1}, "heap": {"Heap": 1},
+    "machine": {"run_code": 5, "trace": 4}, "compiler": {"compile_program": 1}, "linker": {"link": 2}, "build": {"Build": 0}, "session": {"session": 1},
+    "units": {"compile_unit": 2, "write_object": 1, "read_object": 1},
+}
+METHODS = {
+    Heap: {"is_full": 0, "make": 3, "look": 1, "store": 2, "minor": 1, "major": 1, "counts": 0},
+    Build: {"apply": 1, "units": 0, "state": 1, "objects": 0},
 }
 
 
@@ -111,7 +128,27 @@ class Answers(unittest.TestCase):
             self.same(function, unit[0])
         self.same(optimize, unit)
         self.same(run_normal, unit, 20)
-        self.same(run_functions, self.same(convert, unit), unit[1], 20)
+        functions = self.same(convert, unit)
+        self.same(run_functions, functions, unit[1], 20)
+        code = self.same(emit, functions)
+        self.same(is_sound, code)
+        self.same(read_code, self.same(write_code, code))
+        self.same(run_code, code, unit[1], 20, 2, 3)
+        self.same(trace, code, 20, 2, 3)
+
+    def test_units(self):
+        for text in PROGRAMS:
+            self.same(compile_program, parse(text))
+            o = self.same(compile_unit, ("U", (), text), {})
+            if len(o) == 6:
+                self.same(read_object, self.same(write_object, o))
+                other = self.same(compile_unit, ("V", ("U",), "val x = 1"), {"U": o[3]})
+                self.same(link, [other, o], "V")
+                self.same(link, [other], "V")
+            self.same(session, f"unit A\n{text}\n.\nunit B A\n.\nbuild\nobject A\nrun B 20 3 3\ncode A\ninterface A")
+        for text in ("", "function 0 slots 2\nreturn r0", "x"):
+            self.same(read_code, text)
+            self.same(read_object, text)
 
     def test_types(self):
         ty = ("fun", ("var", 3), ("con", "list", (("var", "b"),)))
@@ -136,6 +173,12 @@ class Interface(unittest.TestCase):
                 function = getattr(importlib.import_module("guanaco." + module), name)
                 self.assertEqual(function.__module__, "guanaco." + module)
                 self.assertEqual(len(inspect.signature(function).parameters), count)
+
+    def test_methods(self):
+        for owner, methods in METHODS.items():
+            for name, count in methods.items():
+                self.assertIn(name, vars(owner))
+                self.assertEqual(len(inspect.signature(vars(owner)[name]).parameters), 1 + count)
 
 
 if __name__ == "__main__":
