@@ -10,13 +10,13 @@ SLOTS_PER_OBJECT = 4
 class Linked:
     """What was linked: functions behind function 0, its instructions, and the data and exceptions so far.
 
-    `values` has the slot with the values of each object.
+    `results` has the slot with the values of each object.
     """
 
     def __init__(self):
         self.functions = []
         self.row = []
-        self.values = {}
+        self.results = {}
         self.data = list(DATA)
         self.exceptions = []
 
@@ -36,7 +36,7 @@ def link(objects, main):
     linked = Linked()
     for o in order:
         add_object(linked, o)
-    linked.row.append(("return", linked.values[main]))
+    linked.row.append(("return", linked.results[main]))
     first = (2 + SLOTS_PER_OBJECT * len(order), tuple(linked.row))
     shown = tuple([renamed_value(main, entry) for entry in table[main][4][0]])
     return (first, *linked.functions), (shown, tuple(linked.data), tuple(linked.exceptions))
@@ -82,11 +82,11 @@ def add_object(linked, o):
     linked.row.append(("close", slot, first, 0))
     linked.row.append(("call", slot + 1, slot, 1))
     if imports:
-        linked.row.append(("tuple", slot + 2, tuple([linked.values[other] for other in imports])))
+        linked.row.append(("tuple", slot + 2, tuple([linked.results[other] for other in imports])))
     else:
         linked.row.append(("tag", slot + 2, 0))
     linked.row.append(("call", slot + 3, slot + 1, slot + 2))
-    linked.values[name] = slot + 3
+    linked.results[name] = slot + 3
     declared = len(linked.exceptions)
     for slots, row in code:
         linked.functions.append((slots, tuple([moved(instruction, first, declared) for instruction in row])))

@@ -90,7 +90,8 @@ class Form(unittest.TestCase):
                 ("pack", 0, None, 0), ("pack", 0, 0, -1), ("pack", 0, 0, False), ("close", 0, -1, 0), ("call", 0, 0), ("jump", None), ("guard", 0, None),
                 ("switch", 0, ((0, 0), (0, 0)), None), ("switch", 0, ((1, 0), (0, 0)), None), ("switch", 0, ((-1, 0),), None), ("switch", 0, (("a", 0),), None),
                 ("switch", 0, ((0, None),), None), ("switch", 0, ((0,),), None), ("switch", 0, (0,), None), ("switch", 0, None, None), ("switch", 0, (), -1),
-                ("switch", 0, ((True, 0),), None), ("choose", 0, ((0, 0), (0, 0)), 0), ("choose", 0, (("a", 0), (0, 0)), 0), ("choose", 0, ((None, 0),), 0),
+                ("switch", 0, ((True, 0),), None), ("switch", 0, 5, None), ("switch", 0, "ab", None), ("choose", 0, 5, 0), ("choose", 0, True, 0), ("prim", 0, "PLUS", (0,)),
+                ("prim", 0, "pl1", (0,)), ("prim", 0, "pl\u00e9", (0,)), ("choose", 0, ((0, 0), (0, 0)), 0), ("choose", 0, (("a", 0), (0, 0)), 0), ("choose", 0, ((None, 0),), 0),
                 ("choose", 0, ((True, 0),), 0), ("choose", 0, (), None), ("choose", 0, ((0, 0, 0),), 0), ("unguard", 0), ("same", 0, 0, None)):
             self.assertFalse(is_code(with_row(instruction, ("return", 0))), instruction)
         for instruction in (("switch", 0, (), None), ("choose", 0, ((3, 0), (-3, 0)), 9), ("prim", 0, "plus", ()), ("int", 0, 10 ** 18), ("pack", 0, 0, None)):

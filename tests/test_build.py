@@ -122,6 +122,12 @@ class Builds(unittest.TestCase):
         self.assertEqual(self.errors(build), {"B": ("import", "A"), "C": ("import", "B"), "E": ("import", "A")})
         self.applies(build, [put("A", "val x = 1")], "A", "B", "C", "E")
 
+    def test_errors_go_with_their_units(self):
+        build = Build()
+        self.applies(build, [put("A", "val ?"), put("B", "", "A")], "A")
+        self.applies(build, [drop("A"), drop("B")])
+        self.assertEqual((build.state("A"), build.state("B"), build.units()), (None, None, []))
+
     def test_a_unit_without_its_import_is_compiled_again(self):
         build = Build()
         self.applies(build, [put("A", "val x = 1"), put("B", "val y = A.x", "A")], "A", "B")

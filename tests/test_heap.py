@@ -101,6 +101,16 @@ class Heaps(unittest.TestCase):
         self.assertEqual(heap.counts(), (0, 3, 0))
         self.assertEqual([heap.look(at(k)) for k in range(3)], [("ref", 0, (at(1),)), ("ref", 0, (ONE,)), ("ref", 0, (at(0),))])
 
+    def test_negative_integers_are_no_references(self):
+        heap = Heap(4)
+        heap.make("ref", 0, (("int", -1),))
+        self.assertEqual(heap.minor((at(-1), ("int", -1), ("int", -9))), (at(0), ("int", -1), ("int", -9)))
+        heap.make("tuple", 0, (("int", -1), ("int", -2), at(0)))
+        heap.store(at(0), ("int", -1))
+        self.assertEqual(heap.counts(), (1, 1, 0))
+        self.assertEqual(heap.major((at(-1), ("int", -1))), (at(1), ("int", -1)))
+        self.assertEqual((heap.look(at(0)), heap.look(at(1))), (("ref", 0, (("int", -1),)), ("tuple", 0, (("int", -1), ("int", -2), at(0)))))
+
     def test_what_an_overwritten_reference_held_is_not_kept(self):
         heap = Heap(3)
         heap.make("ref", 0, (ONE,))
@@ -167,7 +177,7 @@ class Heaps(unittest.TestCase):
             chance = random.Random(seed)
             size = chance.randint(1, 8)
             heap, model = Heap(size), HeapModel(size)
-            roots = [ONE, NO]
+            roots = [ONE, NO, ("int", -1)]
             for _ in range(80):
                 kind = chance.randint(0, 9)
                 if kind == 0 or heap.is_full():

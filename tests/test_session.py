@@ -50,7 +50,7 @@ class Sessions(unittest.TestCase):
                     "interface", "interface a", "interface A B", "object", "object x", "object A A", "code", "code 5", "code A B", "run", "run A", "run A 1", "run A 1 1", "run A 1 1 1 1",
                     "run a 1 1 1", "run 1 1 1 A", "run A  1 1 1", "run A 1 1 1 ", "run A 01 1 1", "run A 1 01 1", "run A 1 1 01", "run A 00 1 1", "run A 20001 1 1", "run A 100000 1 1",
                     "run A 1 100000 1", "run A 1 1 100000", "run A 1 0 1", "run A 1 1 0", "run A -1 1 1", "run A 1 1 x", "run A +1 1 1", "run A 1.0 1 1", "quit", "val x = 1", "(* *)",
-                    "run A 000001 1 1", "run A 0 00001 1", "run A 99999 1 1")
+                    "run A  1 1", "run A 1  1", "run A 1 1 ", "run  1 1 1", "run A 000001 1 1", "run A 0 00001 1", "run A 99999 1 1")
 
     def test_names(self):
         for name in ("A", "A1", "A'", "A_b", "Zz9", "A" * 24, "Type", "Val"):
