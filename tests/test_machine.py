@@ -163,8 +163,11 @@ class Instructions(unittest.TestCase):
                         ((("tuple", 2, (0, 0)),), ("tuple", (UNIT, INT))), ((("make", 2, 0, 0),), listed(INT)), ((("tag", 2, 1),), listed(INT)),
                         ((("make", 2, 1, 0),), T), ((("int", 2, 1), ("pack", 2, 2, 0)), EXN), ((("tag", 2, 0),), EXN), ((("prim", 2, "ref", (0,)),), held(INT))):
             self.assertEqual(value(row, ty), STUCK, (row, ty))
-        for row in ((("return", 0),), (("int", 2, 1), R), (("tuple", 2, (0, 0)), R)):
-            self.assertEqual(run_code(code(*row), show(INT), 9, 2, 2)[1], STUCK)
+        for row in ((("return", 0),), (("int", 2, 1), R), (("tuple", 2, (0, 0)), R), (("make", 2, 0, 0), R), (("close", 2, 0, 0), R), (("prim", 2, "ref", (0,)), R),
+                    (("int", 2, 1), ("pack", 2, 2, 0), R), (("string", 2, ""), R)):
+            self.assertEqual(run_code(code(*row), show(UNIT), 9, 2, 2)[1], STUCK)
+        for ty in (("var", "a"), ("con", "missing.9", ())):
+            self.assertEqual(value((("tag", 2, 0),), ty), STUCK)
         for row in ((("tag", 2, 1), R), (("int", 2, 0), R), (("tuple", 2, (0,)), R)):
             self.assertEqual(run_code(code(*row), EMPTY, 9, 2, 2)[1], STUCK)
         row = (("fresh", 2, 1), ("int", 3, 9), ("pack", 2, 2, 3), ("raise", 2))

@@ -134,6 +134,12 @@ class Runs(unittest.TestCase):
         self.stuck(give(n(0), bind(0, "pack", i(4), None)), give(n(0), bind(0, "pack", i(-1), None)), give(n(0), bind(0, "pack", NO, None)),
                    give(n(0), bind(0, "pack", s("a"), None)), ty=EXN)
 
+    def test_an_unpack_by_what_is_no_exception(self):
+        """As on the machine, which is stuck there (point 124)."""
+        packed = bind(2, "pack", i(1), None)
+        self.stuck(select("unpack", n(2), ((NO, give(i(1))),), give(i(3)), packed), select("unpack", n(2), ((i(0), give(i(1))), (s("a"), give(i(2)))), give(i(3)), packed))
+        self.assertEqual(self.value(select("unpack", n(2), ((i(1), give(i(1))), (s("a"), give(i(2)))), give(i(3)), packed)), i(1))
+
     def test_an_exception_at_each_execution(self):
         body = give(n(2), bind(2, "fresh", 0))
         block = give(n(6), fix((0, 1, body)), call(3, n(0), NO), call(4, n(0), NO), prim(5, "ref", i(0)), bind(6, "tuple", (n(3), n(4))))
