@@ -119,15 +119,20 @@ def read_slot(scanner):
     return scanner.natural()
 
 
-def read_slots(scanner):
-    """A tuple of slots."""
+def read_row(scanner, first, last, read_part):
+    """Parts between two signs, with commas between them."""
     found = []
-    scanner.expect("(")
-    while not scanner.skip(")"):
+    scanner.expect(first)
+    while not scanner.skip(last):
         if found:
             scanner.expect(",")
-        found.append(read_slot(scanner))
+        found.append(read_part(scanner))
     return tuple(found)
+
+
+def read_slots(scanner):
+    """A tuple of slots."""
+    return read_row(scanner, "(", ")", read_slot)
 
 
 def read_target(scanner):
@@ -157,17 +162,16 @@ def read_name(scanner):
     return scanner.word()
 
 
+def read_branch(scanner):
+    """A branch."""
+    key = scanner.quoted() if scanner.sign() == "\"" else scanner.integer()
+    scanner.expect(":")
+    return key, read_target(scanner)
+
+
 def read_branches(scanner):
     """Branches."""
-    found = []
-    scanner.expect("[")
-    while not scanner.skip("]"):
-        if found:
-            scanner.expect(",")
-        key = scanner.quoted() if scanner.sign() == "\"" else scanner.integer()
-        scanner.expect(":")
-        found.append((key, read_target(scanner)))
-    return tuple(found)
+    return read_row(scanner, "[", "]", read_branch)
 
 
 WRITERS = {

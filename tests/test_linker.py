@@ -4,6 +4,7 @@ import copy
 import random
 import unittest
 
+from cores import A, EXN, INT, START
 from guanaco.assembly import write_code
 from guanaco.errors import LinkError
 from guanaco.expansion import expanded_size
@@ -15,13 +16,6 @@ from guanaco.units import compile_unit
 from running import FULL, MORE, STUCK, agree
 from unit_runs import order_of, random_units, run_units
 
-INT = ("con", "int", ())
-EXN = ("con", "exn", ())
-A = ("var", "a")
-START = (
-    ("bool", (), (("False", None), ("True", None))),
-    ("list", ("a",), (("Nil", None), ("Cons", ("tuple", (A, ("con", "list", (A,))))))),
-)
 BARE = ((), START, ())
 X = (("x", ((), INT), 0),)
 Y = (("y", ((), INT), 0),)

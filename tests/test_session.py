@@ -4,7 +4,6 @@ import unittest
 
 from guanaco.assembly import read_code
 from guanaco.build import Build
-from guanaco.linker import link
 from guanaco.session import session
 from guanaco.units import read_object, write_object
 

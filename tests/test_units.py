@@ -4,25 +4,21 @@ import copy
 import random
 import unittest
 
+from cores import INT, START
 from guanaco import errors
 from guanaco.assembly import read_code, write_code
 from guanaco.checker import check_with
+from guanaco.closures import convert
 from guanaco.elaborate import elaborate_with
+from guanaco.emitter import emit
 from guanaco.inspect import is_sound
 from guanaco.monos import nodes, ty_scheme
 from guanaco.normal import is_closed, normalize, normalize_unit
-from guanaco.optimizer import reducible
+from guanaco.optimizer import optimize, reducible
 from guanaco.parser import parse, parse_ty
 from guanaco.units import compile_unit, read_object, write_object
 from unit_runs import random_units
 
-INT = ("con", "int", ())
-EXN = ("con", "exn", ())
-A = ("var", "a")
-START = (
-    ("bool", (), (("False", None), ("True", None))),
-    ("list", ("a",), (("Nil", None), ("Cons", ("tuple", (A, ("con", "list", (A,))))))),
-)
 WRAP = "function 0 slots 3\ntag r2 0\nclose r2 #1 r2\nreturn r2\n"
 
 
@@ -118,6 +114,9 @@ class Objects(unittest.TestCase):
             ("bind", 5, ("part", 2, ("name", 1))), ("bind", 6, ("part", 1, ("name", 5))), ("bind", 7, ("apply", ("name", 4), ("int", 1))),
             ("bind", 8, ("tuple", (("name", 6), ("name", 7))))), ("give", ("name", 8)))),)),), ("give", ("name", 0))))
         self.assertEqual(info, (core[2], core[0], ()))
+        best = optimize((block, info))
+        self.assertFalse(reducible(best[0]))
+        self.assertEqual(unit(text, "A", "B", "C", interfaces=table)[4:], (info, emit(convert(best))))
         plain = elaborate_with(parse("val x = 1 fun f y = y + x val z = f 2"), ())
         wrapped, info = normalize_unit(plain, [])
         self.assertEqual(info, normalize(plain)[1])
