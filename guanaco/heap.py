@@ -80,7 +80,8 @@ class Heap:
         needed = {}
         waiting = [roots]
         while waiting:
-            for value in waiting.pop():
+            values = waiting.pop()
+            for value in values:
                 if value[0] == "at" and value[1] not in needed:
                     needed[value[1]] = True
                     waiting.append(self.look(value)[2])

@@ -1,5 +1,6 @@
 """The machine that executes code (points 122 to 126)."""
 
+from guanaco.frames import Frame, note_references, put_roots, roots_of
 from guanaco.heap import Heap
 from guanaco.primitives import OPERATIONS, Raised
 from guanaco.start import EXCEPTIONS
@@ -11,20 +12,6 @@ MOST_OLD = 4000
 EMPTY = ("tag", 0)
 FULL = ("full",)
 STUCK = ("stuck",)
-
-
-class Frame:
-    """A call: the instructions, the number of the next one, the slots that have a value, and the open guards.
-
-    `receiver` is the slot of the calling frame for the value.
-    """
-
-    def __init__(self, row, slots, receiver):
-        self.row = row
-        self.slots = slots
-        self.receiver = receiver
-        self.at = 0
-        self.guards = []
 
 
 class Machine:
@@ -86,6 +73,7 @@ class Machine:
             return
         _, before, _ = self.heap.counts()
         changed = self.frames[self.clean:]
+        note_references(changed)
         put_roots(changed, self.heap.minor(roots_of(changed)))
         self.clean = len(self.frames) - 1
         _, old, _ = self.heap.counts()
@@ -115,20 +103,6 @@ class Machine:
             self.leave()
         # Kept as a value: its tree is made at the end.
         raise Ended(("raised", value))
-
-
-def roots_of(frames):
-    """The values of the slots of frames."""
-    return tuple([frame.slots[slot] for frame in frames for slot in sorted(frame.slots)])
-
-
-def put_roots(frames, roots):
-    """Gives the slots of frames other values."""
-    count = 0
-    for frame in frames:
-        for slot in sorted(frame.slots):
-            frame.slots[slot] = roots[count]
-            count += 1
 
 
 def demand(test):

@@ -23,6 +23,13 @@ from test_elaborate import PROGRAMS
 from units import BLOCKS, i, of
 
 EMPTY = ((), DATA, ())
+# Values that are needed in many frames while others are made, changed and left by exceptions.
+DEEP = (
+    "exception E of int list val r = (ref [] : int list ref) fun f n = if n = 0 then raise E [] else let val a = [n] val s = ref a val b = f (n - 1) handle E l => "
+    "if n mod 3 = 0 then n :: l else raise E (n :: l) val _ = (s := b; r := a) in case !s of x :: y => x :: a | [] => a end val x = f 20 val y = f 7 handle E l => l val z = !r",
+    "fun f n = if n = 0 then [] else let val a = digits n val l = f (n - 1) val b = a ^ digits n in (n, b) :: (n, a) :: l end fun g n = if n = 0 then [] else f n :: g (n - 1) val x = g 9",
+    "val r = ref (fn n => [n + 0]) fun f n = if n < 3 then [n] else let val a = (!r) (n - 1) val _ = r := (fn m => f m) val b = (!r) (n - 2) in n :: (case a of x :: _ => x :: b | [] => b) end val x = f 9",
+)
 R = ("return", 2)
 SAY = (("string", 3, "a"), ("prim", 3, "print", (3,)))
 NO = ("tag", 2, 0)
@@ -437,7 +444,7 @@ class Agreement(unittest.TestCase):
                 self.check_functions(found, (0, 3, 20, 500), self.SIZES)
 
     def test_programs(self):
-        for text in PROGRAMS:
+        for text in PROGRAMS + DEEP:
             unit = normalize(elaborate(parse(text)))
             for found in (unit, optimize(unit)):
                 self.check_functions(found, (0, 2, 7, 40, 2000), self.SIZES)
@@ -456,10 +463,10 @@ class Agreement(unittest.TestCase):
     def test_the_model(self):
         """The machine does what a machine does that follows the words of the points."""
         wholes = [emit(convert(Maker(random.Random(seed)).unit())) for seed in range(60)]
-        wholes += [emit(convert(normalize(elaborate(parse(text))))) for text in PROGRAMS]
+        wholes += [emit(convert(normalize(elaborate(parse(text))))) for text in PROGRAMS + DEEP]
         for whole in wholes:
             for young, limit in self.SIZES[:6]:
-                for fuel in (0, 9, 300):
+                for fuel in (0, 9, 300, 1500):
                     self.check_code(whole, EMPTY, fuel, young, limit)
 
     def test_random_code(self):
