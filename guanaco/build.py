@@ -72,7 +72,8 @@ class Build:
         try:
             self.compiled[name] = (unit, compile_unit(unit, self.interfaces(name)))
         except GuanacoError as error:
-            self.failures[name] = ("text", type(error).__name__)
+            kind = type(error).__name__
+            self.failures[name] = ("text", kind)
 
     def units(self):
         """The list of the units."""
