@@ -10,6 +10,7 @@ from guanaco.monos import close
 from guanaco.name_check import check_expression
 from guanaco.scope import CONSTRUCTOR, STRUCTURE, TY, VALUE, Scope
 from guanaco.scope_check import Outermost, check_outermost
+from guanaco.sizes import Sizes
 from guanaco.start import BASE_TYPES, DATA, EXCEPTIONS, primitive_schemes
 from guanaco.structures import declare, declare_functor, describe_signature
 from guanaco.trees import names
@@ -40,11 +41,12 @@ def examine(program, structures):
     for name, pairs in structures:
         scope.bind(STRUCTURE, name, given_structure(pairs))
     state = Outermost(names_alone(scope))
+    sizes = Sizes(world)
     bindings = {}
     drafts = []
     for number, declaration in enumerate(program):
         check_names(number, state, declaration)
-        reports, draft = declare_typed(number, world, scope, declaration)
+        reports, draft = declare_typed(number, sizes, scope, declaration)
         drafts.append(draft)
         for name, scheme in reports:
             bindings.pop(name, None)
@@ -118,11 +120,12 @@ def check_names(number, state, declaration):
         raise ScopeError(number) from None
 
 
-def declare_typed(number, world, scope, declaration):
+def declare_typed(number, sizes, scope, declaration):
     """Declares what an outermost declaration declares.
 
     The names and schemes of the values that it reports, and its draft.
     """
+    world = sizes.world
     try:
         if declaration[0] == "signature":
             world.signatures[declaration[1]] = describe_signature(world, scope, declaration[2])
@@ -132,6 +135,7 @@ def declare_typed(number, world, scope, declaration):
             return [], ("functor", world.functors[declaration[1]])
         declared, draft = declare(world, scope, declaration)
         scope.include(declared)
+        sizes.look_at(draft)
         return [(name, reported(declared.entry(VALUE, name)[2])) for name in values_of(declaration)], draft
     except Mismatch:
         raise Mismatch(number) from None

@@ -4,7 +4,6 @@ from guanaco.checker import examine
 from guanaco.core_trees import children, types_of
 from guanaco.elaboration import Site, declared
 from guanaco.environment import CONSTRUCTOR, STRUCTURE, Environment, Place, Structure, seek_path
-from guanaco.errors import Mismatch
 from guanaco.forms import parts_of
 from guanaco.primitives import EFFECTS, OPERATIONS
 from guanaco.realization import realize, realize_entry
@@ -48,12 +47,9 @@ def elaborate_with(program, structures):
     world, bindings, drafts = examine(program, structures)
     elaborator = Elaborator(world)
     row = Place(first_environment(elaborator.site, structures))
-    for number, draft in enumerate(drafts):
+    for draft in drafts:
         elaborator.later(declare, draft, (row, elaborator.meanings))
-        try:
-            elaborator.go()
-        except Mismatch:
-            raise Mismatch(number) from None
+        elaborator.go()
     shown = []
     for name, scheme in bindings.items():
         _, x = row.bound[name]

@@ -175,6 +175,8 @@ def declare_local(work, scope, declaration):
     if tag == "exception":
         argument = meaning_or_none(scope, declaration[2])
         made = work.world.make_exception(declaration[1], argument)
+        if argument is not None:
+            work.arguments.append(argument)
         found.bind(CONSTRUCTOR, declaration[1], ("exn", made, (), argument))
         return found, ("exception", declaration[1], argument)
     if tag == "val":

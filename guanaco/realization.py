@@ -1,11 +1,7 @@
 """Types of the core language for those of the checker (point 80)."""
 
-from guanaco.errors import Mismatch
-from guanaco.forms import UNIT, build, exceeds, fold, head_of, parts_of
+from guanaco.forms import UNIT, build, fold, head_of, parts_of
 from guanaco.monos import instance
-
-# Types that seals hide may stand for ones that double again and again.
-LARGEST_REALIZED = 100000
 
 
 def realize(meanings, ty):
@@ -18,10 +14,7 @@ def realize(meanings, ty):
             return ("var", letter(item[1])) if isinstance(item[1], int) else item
         if item[0] != "con" or item[1] not in meanings:
             return build(head_of(item), parts)
-        found = instance(meanings[item[1]], parts)
-        if exceeds(found, LARGEST_REALIZED):
-            raise Mismatch(-1)
-        return found
+        return instance(meanings[item[1]], parts)
     return fold(ty, combine)
 
 

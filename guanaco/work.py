@@ -11,7 +11,8 @@ from guanaco.scope import CONSTRUCTOR
 class Work:
     """The types of one declaration, the level of the innermost `val` or `fun`, and the matches so far.
 
-    `notes` has the nodes whose types the draft of the declaration needs; the draft has their indexes.
+    `notes` has the nodes whose types the draft of the declaration needs; the draft has their indexes. `arguments` has
+    the types of the arguments of exceptions.
     """
 
     def __init__(self, world):
@@ -20,6 +21,7 @@ class Work:
         self.level = 0
         self.matches = []
         self.notes = []
+        self.arguments = []
 
     def note(self, node):
         """The index under which the type of a node is noted."""
@@ -27,11 +29,15 @@ class Work:
         return len(self.notes) - 1
 
     def noted_types(self):
-        """The tuple of the types that were noted. Variables that are not quantified are unit."""
+        """The tuple of the types that were noted, and of those of arguments behind them.
+
+        Variables that are not quantified are unit.
+        """
         def leaf(a):
             return ("var", a) if self.graph.levels[a] == QUANTIFIED else UNIT
         known = {}
-        return tuple([bounded(self.graph.export(node, known, leaf)) for node in self.notes])
+        types = [bounded(self.graph.export(node, known, leaf)) for node in self.notes]
+        return (*types, *self.arguments)
 
     def node_of(self, ty, known):
         """The node of a type; `known` has the nodes of its variables and gets new ones."""

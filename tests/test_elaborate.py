@@ -5,6 +5,7 @@ import unittest
 
 from guanaco import errors
 from guanaco.checker import check, check_with
+from guanaco.compiler import compile_program
 from guanaco.core import is_formed, measure_core
 from guanaco.core_trees import children, types_of
 from guanaco.corerun import run_core
@@ -200,14 +201,33 @@ class Agreement(unittest.TestCase):
             text += f"structure S{k} :> sig type t val x : t end = struct type t = S{k - 1}.t * S{k - 1}.t val x = (S{k - 1}.x, S{k - 1}.x) end "
         self.agrees(parse(text + "val y = S7.x"), (0,))
 
+    def test_types_that_stand_for_far_too_large_ones(self):
+        """Where they can not be written out, all refuse the same declaration (point 29)."""
+        def sealed(k):
+            return f"structure S{k} :> sig type t val f : t -> t end = struct type t = S{k - 1}.t * S{k - 1}.t fun f x = x end "
+        hidden = "structure S0 :> sig type t val f : t -> t end = struct type t = int * int fun f x = x end " + "".join(sealed(k) for k in range(1, 25))
+        double = "structure S :> sig type 'a t val f : 'a -> 'a end = struct type 'a t = 'a * 'a fun f x = x end "
+        functor = "functor F (X : sig type a type b end) = struct structure T :> sig type c val f : c -> c end = struct type c = X.a * X.a * X.b fun f x = x end end " \
+                  "structure A0 = F (struct type a = int type b = int end) "
+        functor += "".join(f"structure A{k} = F (struct type a = A{k - 1}.T.c type b = unit end) " for k in range(1, 20))
+        for text, most in ((hidden + "val x = 1", 17), (double + "val y = 1 datatype d = D of int" + " S.t" * 20 + " val x = 1", 2),
+                           (double + "exception E of int" + " S.t" * 20 + " val x = 1", 1), (double + "val f = fn x => let exception E of int" + " S.t" * 20 + " in x end", 1),
+                           (functor + "val x = 1", 17)):
+            program = parse(text)
+            numbers = []
+            for function in (check, elaborate, compile_program):
+                try:
+                    function(program)
+                    numbers.append(None)
+                except errors.CheckError as error:
+                    numbers.append((type(error), error.number))
+            self.assertEqual(numbers, numbers[:1] * 3, text)
+            self.assertEqual(numbers[0][0], errors.Mismatch)
+            self.assertLessEqual(numbers[0][1], most)
 
-    def test_hidden_types_that_stand_for_far_too_large_ones(self):
-        """A type of so many nodes can not be written out."""
-        text = "structure S0 :> sig type t val f : t -> t end = struct type t = int * int fun f x = x end "
-        for k in range(1, 25):
-            text += f"structure S{k} :> sig type t val f : t -> t end = struct type t = S{k - 1}.t * S{k - 1}.t fun f x = x end "
-        with self.assertRaises(errors.GuanacoError):
-            elaborate(parse(text))
+    def test_types_that_are_just_small_enough(self):
+        double = "structure S :> sig type 'a t val f : 'a -> 'a end = struct type 'a t = 'a * 'a fun f x = x end "
+        self.agrees(parse(double + "datatype d = D of int" + " S.t" * 10 + " | N val x = N"), (0,))
 
 
 class Cores(unittest.TestCase):
